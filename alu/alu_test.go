@@ -3,11 +3,11 @@ package alu
 import (
 	"math"
 	"math/big"
-	"math/bits"
 	"slices"
 	"testing"
 
 	"halberd/api"
+	"halberd/samples"
 )
 
 const (
@@ -35,16 +35,10 @@ func edges() []uint64 {
 	}
 }
 
-// draw tells numbers that follow no plain pattern: the same ones each time for the same seed.
-func draw(seed *uint64) uint64 {
-	*seed = *seed*6364136223846793005 + 1442695040888963407
-	return bits.RotateLeft64(*seed^*seed>>29, 17)
-}
-
 // drawn numbers have all lengths, so that some are far apart and some close together.
 func drawn(seed *uint64) uint64 {
-	x := draw(seed) >> (draw(seed) % 64)
-	if draw(seed)%3 == 0 {
+	x := samples.Draw(seed) >> (samples.Draw(seed) % 64)
+	if samples.Draw(seed)%3 == 0 {
 		x = -x
 	}
 	return x
@@ -159,7 +153,7 @@ func ofPairs(f func(wide bool, a, b uint64)) {
 		seed := uint64(4)
 		for range 3000 {
 			a, b := drawn(&seed), drawn(&seed)
-			if draw(&seed)%8 == 0 {
+			if samples.Draw(&seed)%8 == 0 {
 				b = a&low | b&^low
 			}
 			f(wide, a, b)

@@ -10,6 +10,7 @@ import (
 	"testing"
 
 	"halberd/api"
+	"halberd/samples"
 )
 
 // row is a line and what it stands for.
@@ -634,19 +635,13 @@ func TestReadOfTurnedTexts(t *testing.T) { // P5.2, P5.3
 	}
 }
 
-// draw tells numbers that follow no plain pattern: the same ones each time for the same seed.
-func draw(seed *uint64, n int) int {
-	*seed = *seed*6364136223846793005 + 1442695040888963407
-	return int(*seed >> 33 % uint64(n))
-}
-
 func TestReadOfTextIsTheCode(t *testing.T) { // P5.3
 	rows, seed := table(), uint64(5)
 	for range 2000 {
 		var l []api.Inst
 		var text string
-		for range draw(&seed, 40) + 1 {
-			r := rows[draw(&seed, len(rows))]
+		for range samples.Below(&seed, 40) + 1 {
+			r := rows[samples.Below(&seed, len(rows))]
 			l = append(l, r.l...)
 			text += r.line + "\n"
 		}
@@ -658,16 +653,16 @@ func TestReadOfTextIsTheCode(t *testing.T) { // P5.3
 
 func TestTextOfDrawnInstructionsIsRead(t *testing.T) { // P5.3
 	seed, right := uint64(55), 0
-	pick := func(l ...int) int { return l[draw(&seed, len(l))] }
+	pick := func(l ...int) int { return l[samples.Below(&seed, len(l))] }
 	for range 60000 {
 		var l []api.Inst
-		for range draw(&seed, 3) + 1 {
+		for range samples.Below(&seed, 3) + 1 {
 			l = append(l, api.Inst{
-				Op:  byte(pick(draw(&seed, 256), draw(&seed, 256), 0x18, 0, 0, 0x95)),
-				Dst: byte(pick(0, 0, 1, 10, draw(&seed, 256))),
-				Src: byte(pick(0, 0, 1, 10, draw(&seed, 12))),
-				Off: int16(pick(0, 0, 1, -1, draw(&seed, 1<<16))),
-				Imm: int32(pick(0, 0, 1, -1, draw(&seed, 1<<31))),
+				Op:  byte(pick(samples.Below(&seed, 256), samples.Below(&seed, 256), 0x18, 0, 0, 0x95)),
+				Dst: byte(pick(0, 0, 1, 10, samples.Below(&seed, 256))),
+				Src: byte(pick(0, 0, 1, 10, samples.Below(&seed, 12))),
+				Off: int16(pick(0, 0, 1, -1, samples.Below(&seed, 1<<16))),
+				Imm: int32(pick(0, 0, 1, -1, samples.Below(&seed, 1<<31))),
 			})
 		}
 		if s, err := Text(l); err == api.OK {

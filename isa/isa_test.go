@@ -6,6 +6,7 @@ import (
 	"testing"
 
 	"halberd/api"
+	"halberd/samples"
 )
 
 // may is what the chapter lets some opcodes have, written out by numbers: the greatest Dst and Src, Off and Imm.
@@ -567,29 +568,23 @@ func TestSecondOfManyInstructions(t *testing.T) { // P3.2
 	}
 }
 
-// draw tells numbers that follow no plain pattern: the same ones each time for the same seed.
-func draw(seed *uint64, n int) int {
-	*seed = *seed*6364136223846793005 + 1442695040888963407
-	return int(*seed >> 33 % uint64(n))
-}
-
 // drawn is a code with many jumps and wide ones, of which some are well formed.
 func drawn(seed *uint64) []api.Inst {
-	n := 1 + draw(seed, 64)
-	if draw(seed, 3) > 0 {
+	n := 1 + samples.Below(seed, 64)
+	if samples.Below(seed, 3) > 0 {
 		n = 1 + n%8
 	}
 	l := code(n)
 	for i := 0; i < n-1; i++ {
-		switch draw(seed, 6) {
+		switch samples.Below(seed, 6) {
 		case 0, 1, 2:
-			l[i] = api.Inst{Op: jumps()[draw(seed, len(jumps()))], Off: int16(draw(seed, n-i) - draw(seed, 8)/7)}
+			l[i] = api.Inst{Op: jumps()[samples.Below(seed, len(jumps()))], Off: int16(samples.Below(seed, n-i) - samples.Below(seed, 8)/7)}
 		case 3:
-			l[i] = numbered(api.Inst{Op: 0x18, Src: byte(draw(seed, 2))}, int32(draw(seed, 3)))
-			l[i+1] = numbered(tail, int32(draw(seed, 40)/39))
+			l[i] = numbered(api.Inst{Op: 0x18, Src: byte(samples.Below(seed, 2))}, int32(samples.Below(seed, 3)))
+			l[i+1] = numbered(tail, int32(samples.Below(seed, 40)/39))
 			i++
 		case 4:
-			l[i] = api.Inst{Op: byte(draw(seed, 40) * 5)}
+			l[i] = api.Inst{Op: byte(samples.Below(seed, 40) * 5)}
 		}
 	}
 	return l
@@ -655,7 +650,7 @@ func TestCheckOfDrawnCodes(t *testing.T) { // P3.1
 	well, ill := 0, 0
 	for range 60000 {
 		l := drawn(&seed)
-		maps := draw(&seed, 5) - 1
+		maps := samples.Below(&seed, 5) - 1
 		want := api.EINVAL
 		if isWell(l, maps) {
 			want = api.OK

@@ -2,11 +2,11 @@ package tnum
 
 import (
 	"math"
-	"math/bits"
 	"slices"
 	"testing"
 
 	"halberd/api"
+	"halberd/samples"
 )
 
 const (
@@ -147,27 +147,21 @@ func subtracted(a, b trits) trits {
 	return carried(a, b, func(x, y, c int) int { return x - y - c })
 }
 
-// draw tells numbers that follow no plain pattern: the same ones each time for the same seed.
-func draw(seed *uint64) uint64 {
-	*seed = *seed*6364136223846793005 + 1442695040888963407
-	return bits.RotateLeft64(*seed^*seed>>29, 17)
-}
-
 // drawn patterns have few unknown bits, or about half, or long runs, or nearly all; a bit may be in both Value and Mask.
 func drawn(seed *uint64) api.Tnum {
-	t := pat(draw(seed), draw(seed))
-	switch draw(seed) % 5 {
+	t := pat(samples.Draw(seed), samples.Draw(seed))
+	switch samples.Draw(seed) % 5 {
 	case 0:
-		t.Mask &= draw(seed) & draw(seed)
+		t.Mask &= samples.Draw(seed) & samples.Draw(seed)
 	case 1:
-		t.Mask |= draw(seed) | draw(seed)
+		t.Mask |= samples.Draw(seed) | samples.Draw(seed)
 	case 2:
-		t.Mask = ones >> (draw(seed) % 64) << (draw(seed) % 64)
+		t.Mask = ones >> (samples.Draw(seed) % 64) << (samples.Draw(seed) % 64)
 	case 3:
-		t.Value = ones >> (draw(seed) % 64) << (draw(seed) % 64)
-		t.Mask = 1 << (draw(seed) % 64)
+		t.Value = ones >> (samples.Draw(seed) % 64) << (samples.Draw(seed) % 64)
+		t.Mask = 1 << (samples.Draw(seed) % 64)
 	}
-	if draw(seed)%3 > 0 {
+	if samples.Draw(seed)%3 > 0 {
 		t.Value &^= t.Mask
 	}
 	return t
@@ -175,8 +169,8 @@ func drawn(seed *uint64) api.Tnum {
 
 // numberOf draws a number that a pattern has.
 func numberOf(t api.Tnum, seed *uint64) uint64 {
-	x := draw(seed)
-	switch draw(seed) % 4 {
+	x := samples.Draw(seed)
+	switch samples.Draw(seed) % 4 {
 	case 0:
 		x = 0
 	case 1:
@@ -451,10 +445,10 @@ func ranged(lo, hi uint64) api.Tnum {
 func TestRangeOfDrawn(t *testing.T) { // P6.1
 	seed := uint64(2)
 	for range 20000 {
-		lo := draw(&seed) >> (draw(&seed) % 64)
-		hi := lo + draw(&seed)>>(draw(&seed)%64)
-		if draw(&seed)%4 == 0 {
-			hi = lo ^ 1<<(draw(&seed)%64)
+		lo := samples.Draw(&seed) >> (samples.Draw(&seed) % 64)
+		hi := lo + samples.Draw(&seed)>>(samples.Draw(&seed)%64)
+		if samples.Draw(&seed)%4 == 0 {
+			hi = lo ^ 1<<(samples.Draw(&seed)%64)
 		}
 		for _, c := range [][2]uint64{{lo, hi}, {hi, lo}, {lo, lo}, {^lo, ^hi}} {
 			if got, want := Range(c[0], c[1]), ranged(c[0], c[1]); got != want {
@@ -692,17 +686,6 @@ func TestShiftsOfAllNumbers(t *testing.T) { // P6.3, P6.5
 	}
 }
 
-// noSizes has all from -9 to 70 that are none, and numbers far off, some of which are a size in their low bytes.
-func noSizes() []int {
-	l := []int{math.MinInt, math.MinInt + 8, -1 << 32, 1<<8 + 1, 1<<32 + 4, math.MaxInt - 7, math.MaxInt}
-	for n := -9; n <= 70; n++ {
-		if n != 1 && n != 2 && n != 4 && n != 8 {
-			l = append(l, n)
-		}
-	}
-	return l
-}
-
 func TestCutByHand(t *testing.T) { // P6.3
 	for _, c := range []struct {
 		p    api.Tnum
@@ -748,7 +731,7 @@ func TestCutBitByBit(t *testing.T) { // P6.3
 				t.Fatalf("Cut(%#x, %d): %#x, not %#x", p, n, got, want)
 			}
 		}
-		for _, n := range noSizes() {
+		for _, n := range samples.NoSizes() {
 			if got, want := Cut(p, n), tritsOf(p).pattern(); got != want {
 				t.Fatalf("Cut(%#x, %d): %#x, not %#x", p, n, got, want)
 			}
@@ -823,7 +806,7 @@ func TestMeetBitByBit(t *testing.T) { // P6.4
 		both := ^a.Mask & ^b.Mask
 		b.Value = b.Value&^both | a.Value&both
 		check(a, b)
-		b.Value ^= 1 << (draw(&seed) % 64)
+		b.Value ^= 1 << (samples.Draw(&seed) % 64)
 		check(a, b)
 	})
 	if some < 10000 || none < 10000 {

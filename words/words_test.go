@@ -5,22 +5,13 @@ import (
 	"encoding/binary"
 	"math"
 	"testing"
+
+	"halberd/samples"
 )
 
 const ones = ^uint64(0)
 
 func sizes() []int { return []int{1, 2, 4, 8} }
-
-// noSizes has all from -9 to 66 that are none, and numbers far off, some of which are a size in their low bytes.
-func noSizes() []int {
-	l := []int{math.MinInt, math.MinInt + 8, -1 << 32, 1<<8 + 1, 1<<32 + 4, math.MaxInt - 7, math.MaxInt}
-	for n := -9; n <= 66; n++ {
-		if n != 1 && n != 2 && n != 4 && n != 8 {
-			l = append(l, n)
-		}
-	}
-	return l
-}
 
 // numbers has those about each power of two, and some whose bytes are all unlike.
 func numbers() []uint64 {
@@ -55,7 +46,7 @@ func TestIsSize(t *testing.T) { // P1.1
 			t.Errorf("IsSize(%d): no", n)
 		}
 	}
-	for _, n := range noSizes() {
+	for _, n := range samples.NoSizes() {
 		if IsSize(n) {
 			t.Errorf("IsSize(%d): yes", n)
 		}
@@ -125,7 +116,7 @@ func TestSext(t *testing.T) { // P1.1
 }
 
 func TestExtendOfNoSize(t *testing.T) { // P1.1
-	for _, n := range noSizes() {
+	for _, n := range samples.NoSizes() {
 		for _, x := range numbers() {
 			if got := Zext(x, n); got != x {
 				t.Errorf("Zext(%#x, %d): %#x", x, n, got)
@@ -197,7 +188,7 @@ func noPlaces() [][2]int {
 		{-1, 1}, {-1, 2}, {-8, 8}, {9, 1}, {8, 2}, {6, 4}, {2, 8}, {10, 1}, {100, 8},
 		{math.MaxInt, 1}, {math.MaxInt, 8}, {math.MaxInt - 7, 8}, {math.MaxInt - 3, 4}, {math.MinInt, 1}, {math.MinInt, 8},
 	}
-	for _, n := range noSizes() {
+	for _, n := range samples.NoSizes() {
 		l = append(l, [2]int{0, n}, [2]int{9, n}, [2]int{1, n})
 	}
 	return l
