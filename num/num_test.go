@@ -202,72 +202,6 @@ func cut(x api.Num, n int) api.Num {
 	return y
 }
 
-func drawnNumber(seed *uint64) uint64 {
-	x := samples.Draw(seed) >> (samples.Draw(seed) % 64)
-	switch samples.Draw(seed) % 6 {
-	case 0:
-		x = -x
-	case 1:
-		x = sign - x
-	case 2:
-		x = sign + x
-	case 3:
-		x = 1<<(8<<(samples.Draw(seed)%3)) - x%3
-	}
-	return x
-}
-
-// around tells bounds that a number is within.
-func around(x uint64, seed *uint64) (uint64, uint64) {
-	below, above := drawnNumber(seed), drawnNumber(seed)
-	return x - min(x, below), x + min(ones-x, above)
-}
-
-func signedAround(x int64, seed *uint64) (int64, int64) {
-	// As if 2^63 were added to it: so numbers with a sign have the order of those without.
-	lo, hi := around(uint64(x)+sign, seed)
-	return int64(lo - sign), int64(hi - sign)
-}
-
-// drawn knows this and that of a number, which it has, but for every fourth, that may be empty in any way; bits may be in both Value and Mask.
-func drawn(seed *uint64) (api.Num, uint64) {
-	n := drawnNumber(seed)
-	x := all()
-	parts := samples.Draw(seed) % 8
-	if parts&1 > 0 {
-		x.Bits = pat(n, samples.Draw(seed)|samples.Draw(seed)<<(samples.Draw(seed)%64))
-	}
-	if parts&2 > 0 {
-		x.ULo, x.UHi = around(n, seed)
-	}
-	if parts&4 > 0 {
-		x.SLo, x.SHi = signedAround(int64(n), seed)
-	}
-	if samples.Draw(seed)%4 == 0 {
-		x = drawnAnyhow(x, seed)
-	}
-	if samples.Draw(seed)%4 > 0 {
-		x.Bits.Value &^= x.Bits.Mask
-	}
-	return x, n
-}
-
-func drawnAnyhow(x api.Num, seed *uint64) api.Num {
-	switch samples.Draw(seed) % 5 {
-	case 0:
-		x.ULo = drawnNumber(seed)
-	case 1:
-		x.UHi = drawnNumber(seed)
-	case 2:
-		x.SLo = int64(drawnNumber(seed))
-	case 3:
-		x.SHi = int64(drawnNumber(seed))
-	case 4:
-		x.Bits.Value = drawnNumber(seed)
-	}
-	return x
-}
-
 // edges have numbers, but for the ones that emptyEdges tells.
 func edges() []api.Num {
 	l := []api.Num{
@@ -305,7 +239,7 @@ func ofAll(f func(x api.Num)) {
 	}
 	seed := uint64(7)
 	for range 6000 {
-		x, _ := drawn(&seed)
+		x, _ := samples.Known(&seed)
 		f(x)
 	}
 }
@@ -318,12 +252,12 @@ func ofPairs(f func(a, b api.Num)) {
 	}
 	seed := uint64(70)
 	for range 4000 {
-		a, n := drawn(&seed)
-		b, _ := drawn(&seed)
+		a, n := samples.Known(&seed)
+		b, _ := samples.Known(&seed)
 		// Of two that are drawn alone, hardly any have a number in common.
 		if samples.Draw(&seed)%2 == 0 {
 			b = all()
-			b.ULo, b.UHi = around(n, &seed)
+			b.ULo, b.UHi = samples.Around(n, &seed)
 			b.Bits = pat(n, samples.Draw(&seed)|samples.Draw(&seed))
 		}
 		f(a, b)
@@ -344,16 +278,6 @@ func has(x api.Num, n uint64) bool {
 	}
 	without := whole(n)
 	return k.ulo.Cmp(without) <= 0 && without.Cmp(k.uhi) <= 0 && k.slo.Cmp(with) <= 0 && with.Cmp(k.shi) <= 0
-}
-
-// near tells numbers in and about what is known: at its bounds, at the ends of its pattern, at the ends of all numbers.
-func near(x api.Num) []uint64 {
-	var l []uint64
-	value, mask := x.Bits.Value&^x.Bits.Mask, x.Bits.Mask
-	for _, n := range []uint64{x.ULo, x.UHi, uint64(x.SLo), uint64(x.SHi), value, value | mask, value | mask&sign, value | mask&^sign, 0, sign} {
-		l = append(l, n-1, n, n+1, n&mask|value)
-	}
-	return l
 }
 
 func TestHasByHand(t *testing.T) { // P7.1
@@ -418,7 +342,7 @@ func TestHasByHand(t *testing.T) { // P7.1
 
 func TestHasNear(t *testing.T) { // P7.1
 	ofAll(func(x api.Num) {
-		for _, n := range near(x) {
+		for _, n := range samples.Near(x) {
 			if got, want := Has(x, n), has(x, n); got != want {
 				t.Fatalf("Has(%#x, %#x): %v", x, n, got)
 			}
@@ -457,7 +381,7 @@ func TestAll(t *testing.T) { // P7.1
 	}
 	seed := uint64(3)
 	for range 1000 {
-		if n := drawnNumber(&seed); !Has(All(), n) {
+		if n := samples.Number(&seed); !Has(All(), n) {
 			t.Errorf("All() has not %#x", n)
 		}
 	}
@@ -608,7 +532,7 @@ func TestRefineOfSmall(t *testing.T) { // P7.2, P7.6
 func TestRefineKeepsNumbers(t *testing.T) { // P7.6
 	ofAll(func(x api.Num) {
 		got, ok := Refine(x)
-		for _, n := range append(near(x), near(got)...) {
+		for _, n := range append(samples.Near(x), samples.Near(got)...) {
 			if had := Has(x, n); had != (ok && Has(got, n)) {
 				t.Fatalf("Refine(%#x): %#x, %v: is %#x in it?", x, got, ok, n)
 			}
@@ -616,7 +540,7 @@ func TestRefineKeepsNumbers(t *testing.T) { // P7.6
 	})
 	seed := uint64(8)
 	for range 6000 {
-		x, n := drawn(&seed)
+		x, n := samples.Known(&seed)
 		if got, ok := Refine(x); Has(x, n) != (ok && Has(got, n)) {
 			t.Fatalf("Refine(%#x): %#x, %v: is %#x in it?", x, got, ok, n)
 		}
@@ -686,9 +610,9 @@ func TestSignedByHand(t *testing.T) { // P7.3
 func TestBoundsToldTwice(t *testing.T) { // P7.3, P7.6
 	seed := uint64(9)
 	for range 6000 {
-		n := drawnNumber(&seed)
-		lo, hi := around(n, &seed)
-		slo, shi := signedAround(int64(n), &seed)
+		n := samples.Number(&seed)
+		lo, hi := samples.Around(n, &seed)
+		slo, shi := samples.SignedAround(int64(n), &seed)
 		for _, c := range [][2]uint64{{lo, hi}, {hi, lo}, {n, n}, {n, n + 1}, {n + 1, n}} {
 			want, _ := refined(unsigned(c[0], c[1]))
 			if got := Bounds(c[0], c[1]); got != want || c[0] <= n && n <= c[1] && !Has(got, n) {
@@ -758,7 +682,7 @@ func TestMeetToldTwice(t *testing.T) { // P7.4
 func TestMeetHasWhatBothHave(t *testing.T) { // P7.4, P7.6
 	ofPairs(func(a, b api.Num) {
 		got, ok := Meet(a, b)
-		for _, n := range append(near(a), near(b)...) {
+		for _, n := range append(samples.Near(a), samples.Near(b)...) {
 			if both := Has(a, n) && Has(b, n); both != (ok && Has(got, n)) {
 				t.Fatalf("Meet(%#x, %#x): %#x, %v: is %#x in it?", a, b, got, ok, n)
 			}
@@ -840,7 +764,7 @@ func TestCutKeepsNumbers(t *testing.T) { // P7.5, P7.6
 	ofAll(func(x api.Num) {
 		for _, size := range []int{1, 2, 4} {
 			got, end := Cut(x, size), uint64(1)<<(8*size)
-			for _, n := range near(x) {
+			for _, n := range samples.Near(x) {
 				if Has(x, n) && !Has(got, n%end) {
 					t.Fatalf("Cut(%#x, %d): %#x, that has not %#x", x, size, got, n%end)
 				}

@@ -1,4 +1,4 @@
-// Package samples has numbers for the tests of the layers' packages; none of these calls it.
+// Package samples has numbers, and what is known of them, for the tests of the layers' packages; none of these calls it.
 package samples
 
 import (
