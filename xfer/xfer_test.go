@@ -10,6 +10,7 @@ import (
 	"halberd/api"
 	"halberd/num"
 	"halberd/samples"
+	"halberd/small"
 	"halberd/tnum"
 )
 
@@ -667,21 +668,10 @@ func TestDoToldTwice(t *testing.T) { // P8.1
 	})
 }
 
-// some tells up to six numbers that are had, the least and the greatest of those near among them.
-func some(a api.Num, x uint64) []uint64 {
-	l := slices.DeleteFunc(append(samples.Near(a), x), func(n uint64) bool { return !num.Has(a, n) })
-	slices.Sort(l)
-	l = slices.Compact(l)
-	if n := len(l); n > 6 {
-		l = []uint64{l[0], l[1], l[n/3], l[n/2], l[n-2], l[n-1]}
-	}
-	return l
-}
-
 func TestResultsAreHad(t *testing.T) { // P8.2
 	asked := 0
 	ofDrawn(func(a, b api.Num, x, y uint64) {
-		l, m := some(a, x), some(b, y)
+		l, m := small.Some(a, x), small.Some(b, y)
 		asked += len(l) * len(m)
 		ofOperations(func(op byte, wide bool) {
 			got, _ := Do(op, wide, a, b)
@@ -699,47 +689,12 @@ func TestResultsAreHad(t *testing.T) { // P8.2
 	}
 }
 
-// windows have eight numbers each, most of them on both sides of an edge.
-func windows() []uint64 { return []uint64{0, -4 & ones, 1<<31 - 4, low - 3, sign - 4} }
-
-// small is what is known of numbers of a window, and which of them it has.
-type small struct {
-	api.Num
-	had []int
-}
-
-// smalls has bounds in a window, without a sign, or with one, where they don't go round there.
-func smalls(base uint64) []small {
-	var l []small
-	for _, bits := range []api.Tnum{tnum.All(), {Value: 1, Mask: ones - 1}, {Value: 2, Mask: ones - 3}, {Mask: ones - 2}} {
-		for _, ends := range [][2]uint64{{0, 7}, {1, 4}, {3, 5}, {6, 6}} {
-			lo, hi := base+ends[0], base+ends[1]
-			x, y := within(lo, hi), signed(int64(lo), int64(hi))
-			x.Bits, y.Bits = bits, bits
-			refined, _ := num.Refine(y)
-			for _, k := range []api.Num{x, y, refined} {
-				l = append(l, small{k, hadOf(k, base)})
-			}
-		}
-	}
-	return slices.DeleteFunc(l, func(k small) bool { return len(k.had) == 0 })
-}
-
-func hadOf(x api.Num, base uint64) []int {
-	var l []int
-	for i := range 8 {
-		if num.Has(x, base+uint64(i)) {
-			l = append(l, i)
-		}
-	}
-	return l
-}
-
 func TestResultsOfSmallAreHad(t *testing.T) { // P8.1, P8.2
-	for _, first := range windows() {
+	ends := [][2]int{{0, 7}, {1, 4}, {3, 5}, {6, 6}}
+	for _, first := range small.Windows() {
 		// Shifts go round at 32 and at 64.
-		for _, second := range append(windows(), 28, 60) {
-			l, m := smalls(first), smalls(second)
+		for _, second := range append(small.Windows(), 28, 60) {
+			l, m := small.In(first, ends...), small.In(second, ends...)
 			ofOperations(func(op byte, wide bool) {
 				results := resultsOf(op, wide, first, second)
 				for _, a := range l {
@@ -753,8 +708,8 @@ func TestResultsOfSmallAreHad(t *testing.T) { // P8.1, P8.2
 }
 
 // resultsOf tells those of all numbers of two windows.
-func resultsOf(op byte, wide bool, first, second uint64) [8][8]uint64 {
-	var l [8][8]uint64
+func resultsOf(op byte, wide bool, first, second uint64) [small.Size][small.Size]uint64 {
+	var l [small.Size][small.Size]uint64
 	for i := range l {
 		for j := range l[i] {
 			l[i][j], _ = alu.Do(op, wide, first+uint64(i), second+uint64(j))
@@ -763,11 +718,11 @@ func resultsOf(op byte, wide bool, first, second uint64) [8][8]uint64 {
 	return l
 }
 
-func checkSmall(t *testing.T, op byte, wide bool, a, b small, results [8][8]uint64) {
+func checkSmall(t *testing.T, op byte, wide bool, a, b small.Known, results [small.Size][small.Size]uint64) {
 	t.Helper()
 	got, ok := Do(op, wide, a.Num, b.Num)
-	for _, i := range a.had {
-		for _, j := range b.had {
+	for _, i := range a.Had {
+		for _, j := range b.Had {
 			if !ok || !num.Has(got, results[i][j]) {
 				t.Fatalf("Do(%#x, %v, %#x, %#x): %#x, %v, that has not %#x", op, wide, a.Num, b.Num, got, ok, results[i][j])
 			}
