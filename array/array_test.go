@@ -2,7 +2,6 @@ package array
 
 import (
 	"bytes"
-	"math"
 	"slices"
 	"testing"
 
@@ -87,13 +86,6 @@ func hold(t *testing.T, a *Array, m kept) {
 	}
 }
 
-// turnAll turns each byte of a list, so that whoever shares it is seen.
-func turnAll(b []byte) {
-	for i := range b {
-		b[i] ^= 0xFF
-	}
-}
-
 func TestExamples(t *testing.T) { // P10.1
 	hold(t, made(t, 4, 2), kept{{0, 0, 0, 0}, {0, 0, 0, 0}})
 	if a, err := New(0, 2); a != nil || err != api.EINVAL {
@@ -125,26 +117,6 @@ func TestLimits(t *testing.T) { // P10.1
 	}
 }
 
-// outside has numbers that are not from first to last: near, far, with low bytes that are, and with products that go round.
-func outside(first, last int) []int {
-	l := []int{
-		math.MinInt, math.MinInt + 1, math.MinInt + 8, -1 << 62, -1 << 61, -1 << 32, -1<<32 + 1, -256, -255,
-		256, 257, 1<<16 + 1, 1 << 31, 1 << 32, 1<<32 + 1, 1 << 59, 1 << 60, 1 << 61, 1 << 62, math.MaxInt - 1, math.MaxInt,
-	}
-	for i := range 64 {
-		l = append(l, first-1-i, last+1+i)
-	}
-	return l
-}
-
-func upTo(most int) []int {
-	var l []int
-	for i := range most {
-		l = append(l, i+1)
-	}
-	return l
-}
-
 func refuse(t *testing.T, sizes, numbers []int) {
 	t.Helper()
 	for _, size := range sizes {
@@ -157,9 +129,9 @@ func refuse(t *testing.T, sizes, numbers []int) {
 }
 
 func TestNewOfWhatIsNoArray(t *testing.T) { // P10.1
-	noSizes, noNumbers := outside(1, api.MaxValue), outside(1, api.MaxSlots)
-	refuse(t, noSizes, upTo(api.MaxSlots))
-	refuse(t, upTo(api.MaxValue), noNumbers)
+	noSizes, noNumbers := samples.Outside(1, api.MaxValue), samples.Outside(1, api.MaxSlots)
+	refuse(t, noSizes, samples.UpTo(api.MaxSlots))
+	refuse(t, samples.UpTo(api.MaxValue), noNumbers)
 	refuse(t, noSizes, noNumbers)
 }
 
@@ -186,8 +158,8 @@ func TestSlotTellsTheBytesThemselves(t *testing.T) { // P10.2
 		a, m := filled(t, c[0], c[1], &seed)
 		for k := range m {
 			first, second := slot(t, a, k), slot(t, a, k)
-			turnAll(first)
-			turnAll(m[k])
+			samples.TurnAll(first)
+			samples.TurnAll(m[k])
 			if !bytes.Equal(second, m[k]) || !bytes.Equal(slot(t, a, k), m[k]) {
 				t.Errorf("slot %d: what was written to is %v, another telling has %v", k, first, second)
 			}
@@ -205,7 +177,7 @@ func TestSlotOfNoNumber(t *testing.T) { // P10.2
 	seed := uint64(2)
 	for _, c := range shapes() {
 		a, m := filled(t, c[0], c[1], &seed)
-		for _, k := range append(outside(0, c[1]-1), c[0]*c[1]) {
+		for _, k := range append(samples.Outside(0, c[1]-1), c[0]*c[1]) {
 			if b, ok := a.Slot(k); b != nil || ok {
 				t.Errorf("Slot(%d) of %d slots: %v, %v", k, c[1], b, ok)
 			}
@@ -281,7 +253,7 @@ func appendToAll(t *testing.T, a *Array, m kept) {
 			if !bytes.Equal(b[:len(m[k])], m[k]) {
 				t.Errorf("append to slot %d has %v, not %v", k, b[:len(m[k])], m[k])
 			}
-			turnAll(b[:cap(b)])
+			samples.TurnAll(b[:cap(b)])
 			hold(t, a, m)
 		}
 	}
@@ -303,13 +275,13 @@ func TestBytesIsACopy(t *testing.T) { // P10.2
 		a, m := filled(t, c[0], c[1], &seed)
 		first, second := a.Bytes(), a.Bytes()
 		all := bytes.Clone(first)
-		turnAll(first[:cap(first)])
+		samples.TurnAll(first[:cap(first)])
 		hold(t, a, m)
 		if !bytes.Equal(second, all) {
 			t.Errorf("another telling: %v, not %v", second, all)
 		}
-		turnAll(slot(t, a, 0))
-		turnAll(m[0])
+		samples.TurnAll(slot(t, a, 0))
+		samples.TurnAll(m[0])
 		hold(t, a, m)
 		if !bytes.Equal(second, all) {
 			t.Errorf("a telling ahead of a write: %v, not %v", second, all)
@@ -331,8 +303,8 @@ func TestCopy(t *testing.T) { // P10.2, P10.3
 			for j := range all {
 				hold(t, all[j], has[j])
 			}
-			turnAll(slot(t, x, last))
-			turnAll(has[i][last])
+			samples.TurnAll(slot(t, x, last))
+			samples.TurnAll(has[i][last])
 			slot(t, x, 0)[c[0]-1] = byte(i)
 			has[i][0][c[0]-1] = byte(i)
 		}
@@ -346,7 +318,7 @@ func TestArraysShareNothing(t *testing.T) { // P10.1, P10.3
 	for _, c := range shapes() {
 		a, b := made(t, c[0], c[1]), made(t, c[0], c[1])
 		for k := range c[1] {
-			turnAll(slot(t, a, k))
+			samples.TurnAll(slot(t, a, k))
 		}
 		hold(t, b, zeros(c[0], c[1]))
 		hold(t, made(t, c[0], c[1]), zeros(c[0], c[1]))
@@ -358,7 +330,7 @@ func TestNilArray(t *testing.T) { // P10.1, P10.2
 	if a.Len() != 0 || a.Size() != 0 || len(a.Bytes()) != 0 || a.Copy() != nil {
 		t.Errorf("nil: %d slots of %d, %v, %v", a.Len(), a.Size(), a.Bytes(), a.Copy())
 	}
-	for _, k := range append(outside(0, 0), 0) {
+	for _, k := range append(samples.Outside(0, 0), 0) {
 		if b, ok := a.Slot(k); b != nil || ok {
 			t.Errorf("Slot(%d) of nil: %v, %v", k, b, ok)
 		}

@@ -1,4 +1,4 @@
-// Package samples has numbers, and what is known of them, for the tests of the layers' packages; none of these calls it.
+// Package samples has numbers, what is known of them, and what turns bytes, for the tests of the layers' packages; none of these calls it.
 package samples
 
 import (
@@ -35,4 +35,32 @@ func NoSizes() []int {
 		}
 	}
 	return l
+}
+
+// Outside has numbers that are not from first to last, which are of 0 to 255: near, far, with low bytes that may be, and with products that go round.
+func Outside(first, last int) []int {
+	l := []int{
+		math.MinInt, math.MinInt + 1, math.MinInt + 8, -1 << 62, -1 << 61, -1 << 32, -1<<32 + 1, -256, -255,
+		256, 257, 1<<16 + 1, 1 << 31, 1 << 32, 1<<32 + 1, 1 << 59, 1 << 60, 1 << 61, 1 << 62, math.MaxInt - 1, math.MaxInt,
+	}
+	for i := range 64 {
+		l = append(l, first-1-i, last+1+i)
+	}
+	return l
+}
+
+// UpTo has the numbers from 1 on.
+func UpTo(most int) []int {
+	var l []int
+	for i := range most {
+		l = append(l, i+1)
+	}
+	return l
+}
+
+// TurnAll turns each byte of a list, so that whoever shares it is seen.
+func TurnAll(b []byte) {
+	for i := range b {
+		b[i] ^= 0xFF
+	}
 }

@@ -1,6 +1,7 @@
 package samples
 
 import (
+	"math"
 	"slices"
 	"testing"
 )
@@ -52,5 +53,35 @@ func TestNoSizesHasNoSize(t *testing.T) {
 		if slices.Contains(l, n) == slices.Contains([]int{1, 2, 4, 8}, n) {
 			t.Errorf("is %d in it?", n)
 		}
+	}
+}
+
+func TestOutsideIsOutside(t *testing.T) {
+	for _, ends := range [][2]int{{0, 0}, {1, 16}, {1, 32}, {0, 15}} {
+		l := Outside(ends[0], ends[1])
+		for _, n := range l {
+			if n >= ends[0] && n <= ends[1] {
+				t.Errorf("%d is outside %v", n, ends)
+			}
+		}
+		for _, n := range []int{ends[0] - 1, ends[1] + 1, math.MinInt, math.MaxInt} {
+			if !slices.Contains(l, n) {
+				t.Errorf("%d isn't outside %v", n, ends)
+			}
+		}
+	}
+}
+
+func TestUpToHasBothEnds(t *testing.T) {
+	if l := UpTo(3); !slices.Equal(l, []int{1, 2, 3}) {
+		t.Errorf("up to 3: %v", l)
+	}
+}
+
+func TestTurnAllTurnsEach(t *testing.T) {
+	b := []byte{0, 1, 0x80, 0xFF}
+	TurnAll(b[:3])
+	if !slices.Equal(b, []byte{0xFF, 0xFE, 0x7F, 0xFF}) {
+		t.Errorf("turned: %v", b)
 	}
 }
