@@ -53,9 +53,7 @@ func filled(t *testing.T, size, n int, seed *uint64) (*Array, kept) {
 	t.Helper()
 	a, m := made(t, size, n), zeros(size, n)
 	for k := range m {
-		for i := range m[k] {
-			m[k][i] = byte(1 + samples.Below(seed, 255))
-		}
+		m[k] = samples.Bytes(size, seed)
 		copy(slot(t, a, k), m[k])
 	}
 	return a, m

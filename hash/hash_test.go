@@ -112,14 +112,6 @@ func number(length, x int) []byte {
 	return b
 }
 
-func drawn(length int, seed *uint64) []byte {
-	b := make([]byte, length)
-	for i := range b {
-		b[i] = byte(1 + samples.Below(seed, 255))
-	}
-	return b
-}
-
 // put does the same to a map and to what is kept of it.
 func put(t *testing.T, h *Hash, m *kept, key, value []byte, flags uint64) {
 	t.Helper()
@@ -142,7 +134,7 @@ func full(t *testing.T, s shape, seed *uint64) (*Hash, *kept) {
 	t.Helper()
 	h, m := made(t, s)
 	for k := range s.n {
-		put(t, h, m, number(s.key, (k*7+3)%16), drawn(s.size, seed), 0)
+		put(t, h, m, number(s.key, (k*7+3)%16), samples.Bytes(s.size, seed), 0)
 	}
 	hold(t, h, m)
 	return h, m
@@ -335,7 +327,7 @@ func TestPutOfOtherLengthsOrFlags(t *testing.T) { // P11.2
 		maps, has := partly(t, s, &seed)
 		for i, h := range maps {
 			for _, key := range [][]byte{number(s.key, 3), number(s.key, 17)} {
-				value := drawn(s.size, &seed)
+				value := samples.Bytes(s.size, &seed)
 				for flags := range uint64(3) {
 					for _, short := range lengths(key) {
 						refused(t, h, has[i], short, value, flags, api.EINVAL)
@@ -429,20 +421,6 @@ func TestFindOfOtherLengths(t *testing.T) { // P11.1
 	}
 }
 
-// orders tells all orders of the numbers below n.
-func orders(n int) [][]int {
-	if n == 0 {
-		return [][]int{nil}
-	}
-	var l [][]int
-	for _, o := range orders(n - 1) {
-		for at := range n {
-			l = append(l, slices.Insert(slices.Clone(o), at, n-1))
-		}
-	}
-	return l
-}
-
 // dropAndFill drops the keys of slots in an order, and puts others till the map is full.
 func dropAndFill(t *testing.T, s shape, order []int, seed *uint64) {
 	t.Helper()
@@ -453,42 +431,30 @@ func dropAndFill(t *testing.T, s shape, order []int, seed *uint64) {
 	hold(t, h, m)
 	rising := slices.Sorted(slices.Values(order))
 	for i, k := range rising {
-		key, value := number(s.key, 30+i), drawn(s.size, seed)
+		key, value := number(s.key, 30+i), samples.Bytes(s.size, seed)
 		if got, err := h.Put(key, value, uint64(i%2)); got != k || err != api.OK {
 			t.Fatalf("behind drops of %v put %d is in slot %d, %d, not %d", order, i, got, err, k)
 		}
 		m.put(key, value, 0)
 		hold(t, h, m)
 	}
-	put(t, h, m, number(s.key, 29), drawn(s.size, seed), 0)
+	put(t, h, m, number(s.key, 29), samples.Bytes(s.size, seed), 0)
 	hold(t, h, m)
 }
 
 func TestTheLeastFreeSlot(t *testing.T) { // P11.2, P11.3
 	seed := uint64(5)
 	for n := 1; n <= 5; n++ {
-		for _, order := range orders(n) {
+		for _, order := range samples.Orders(n) {
 			for some := 1; some <= n; some++ {
 				dropAndFill(t, shape{2, 1, n}, order[:some], &seed)
 			}
 		}
 	}
 	for range 300 {
-		order := rangeTo(16)
-		for k := range order {
-			j := k + samples.Below(&seed, 16-k)
-			order[k], order[j] = order[j], order[k]
-		}
+		order := samples.Shuffled(16, &seed)
 		dropAndFill(t, shape{1, 2, 16}, order[:1+samples.Below(&seed, 16)], &seed)
 	}
-}
-
-func rangeTo(n int) []int {
-	var l []int
-	for k := range n {
-		l = append(l, k)
-	}
-	return l
 }
 
 func TestDropsAmidPuts(t *testing.T) { // P11.2, P11.3, P11.4
@@ -540,7 +506,7 @@ func TestPutOnceMore(t *testing.T) { // P11.2, P11.4
 		h, m := full(t, s, &seed)
 		for range 2 {
 			for k := s.n - 1; k >= 0; k-- {
-				told, value := slot(t, h, k), drawn(s.size, &seed)
+				told, value := slot(t, h, k), samples.Bytes(s.size, &seed)
 				put(t, h, m, m.keys[k], value, uint64(k%2)*2)
 				hold(t, h, m)
 				if !bytes.Equal(told, value) {
@@ -653,7 +619,7 @@ func TestWhatIsHandedInIsNotKept(t *testing.T) { // P11.2, P11.3
 	for _, s := range shapes() {
 		h, m := made(t, s)
 		for x := range s.n + 2 {
-			key, value := append(number(s.key, x), 1, 2, 3), append(drawn(s.size, &seed), 4, 5, 6)
+			key, value := append(number(s.key, x), 1, 2, 3), append(samples.Bytes(s.size, &seed), 4, 5, 6)
 			keyWas, valueWas := bytes.Clone(key), bytes.Clone(value)
 			put(t, h, m, key[:s.key], value[:s.size], 0)
 			put(t, h, m, key[:s.key], value[:s.size], 0)
@@ -731,7 +697,7 @@ func TestWhatWasToldStays(t *testing.T) { // P11.3
 		keys, all, had := h.Keys(), h.Bytes(), m.copied()
 		for k := range s.n {
 			drop(t, h, m, m.keys[k])
-			put(t, h, m, number(s.key, 20+k), drawn(s.size, &seed), 0)
+			put(t, h, m, number(s.key, 20+k), samples.Bytes(s.size, &seed), 0)
 		}
 		hold(t, h, m)
 		if !slices.EqualFunc(keys, had.keys, bytes.Equal) || !bytes.Equal(all, slices.Concat(had.values...)) {
@@ -744,11 +710,11 @@ func TestWhatWasToldStays(t *testing.T) { // P11.3
 func changes() []func(t *testing.T, h *Hash, m *kept, seed *uint64) {
 	return []func(t *testing.T, h *Hash, m *kept, seed *uint64){
 		func(t *testing.T, h *Hash, m *kept, seed *uint64) {
-			put(t, h, m, number(m.key, 16), drawn(m.size, seed), 0)
+			put(t, h, m, number(m.key, 16), samples.Bytes(m.size, seed), 0)
 		},
 		func(t *testing.T, h *Hash, m *kept, seed *uint64) { drop(t, h, m, number(m.key, 3)) },
 		func(t *testing.T, h *Hash, m *kept, seed *uint64) {
-			put(t, h, m, number(m.key, 3), drawn(m.size, seed), 2)
+			put(t, h, m, number(m.key, 3), samples.Bytes(m.size, seed), 2)
 		},
 		func(t *testing.T, h *Hash, m *kept, seed *uint64) {
 			samples.TurnAll(slot(t, h, m.n-1))
@@ -756,7 +722,7 @@ func changes() []func(t *testing.T, h *Hash, m *kept, seed *uint64) {
 		},
 		func(t *testing.T, h *Hash, m *kept, seed *uint64) {
 			for x := range m.n {
-				put(t, h, m, number(m.key, 200+x), drawn(m.size, seed), 1)
+				put(t, h, m, number(m.key, 200+x), samples.Bytes(m.size, seed), 1)
 			}
 		},
 		func(t *testing.T, h *Hash, m *kept, seed *uint64) {
@@ -798,12 +764,12 @@ func TestACopyHasTheSameLimits(t *testing.T) { // P11.2, P11.3
 		maps, has := partly(t, s, &seed)
 		for i, h := range maps {
 			c := h.Copy()
-			refused(t, c, has[i], drawn(s.key+1, &seed), drawn(s.size, &seed), 0, api.EINVAL)
-			refused(t, c, has[i], drawn(s.key-1, &seed), drawn(s.size, &seed), 0, api.EINVAL)
-			refused(t, c, has[i], drawn(s.key, &seed), drawn(s.size+1, &seed), 0, api.EINVAL)
-			refused(t, c, has[i], drawn(s.key, &seed), drawn(s.size-1, &seed), 0, api.EINVAL)
+			refused(t, c, has[i], samples.Bytes(s.key+1, &seed), samples.Bytes(s.size, &seed), 0, api.EINVAL)
+			refused(t, c, has[i], samples.Bytes(s.key-1, &seed), samples.Bytes(s.size, &seed), 0, api.EINVAL)
+			refused(t, c, has[i], samples.Bytes(s.key, &seed), samples.Bytes(s.size+1, &seed), 0, api.EINVAL)
+			refused(t, c, has[i], samples.Bytes(s.key, &seed), samples.Bytes(s.size-1, &seed), 0, api.EINVAL)
 			for x := range s.n + 1 {
-				put(t, c, has[i], number(s.key, 16+x), drawn(s.size, &seed), 0)
+				put(t, c, has[i], number(s.key, 16+x), samples.Bytes(s.size, &seed), 0)
 			}
 			hold(t, c, has[i])
 		}
@@ -816,7 +782,7 @@ func TestMapsShareNothing(t *testing.T) { // P11.1
 		a, aHas := made(t, s)
 		b, bHas := made(t, s)
 		for x := range s.n {
-			put(t, a, aHas, number(s.key, x), drawn(s.size, &seed), 0)
+			put(t, a, aHas, number(s.key, x), samples.Bytes(s.size, &seed), 0)
 		}
 		hold(t, a, aHas)
 		hold(t, b, bHas)
@@ -881,7 +847,7 @@ func (s *script) step(t *testing.T) {
 		if samples.Below(&s.seed, 30) == 0 {
 			size += 1 - 2*samples.Below(&s.seed, 2)
 		}
-		put(t, h, m, key, drawn(size, &s.seed), uint64(samples.Below(&s.seed, 25)*2/15))
+		put(t, h, m, key, samples.Bytes(size, &s.seed), uint64(samples.Below(&s.seed, 25)*2/15))
 	case 6, 7, 8, 9:
 		drop(t, h, m, key)
 	case 10:

@@ -1,9 +1,10 @@
-// Package samples has numbers, what is known of them, and what turns bytes, for the tests of the layers' packages; none of these calls it.
+// Package samples has numbers, their orders, what is known of them, and bytes, for the tests of the layers' packages; none of these calls it.
 package samples
 
 import (
 	"math"
 	"math/bits"
+	"slices"
 )
 
 // next is the same for the same seed, as a test that fails must fail once more.
@@ -21,6 +22,42 @@ func Draw(seed *uint64) uint64 {
 // Below draws one of the n numbers from 0 on.
 func Below(seed *uint64, n int) int {
 	return int(next(seed) >> 33 % uint64(n))
+}
+
+// Bytes draws so many; none is 0, so that they are seen beside those that were never written.
+func Bytes(length int, seed *uint64) []byte {
+	b := make([]byte, length)
+	for i := range b {
+		b[i] = byte(1 + Below(seed, 255))
+	}
+	return b
+}
+
+// Orders tells all orders of the numbers below n.
+func Orders(n int) [][]int {
+	if n == 0 {
+		return [][]int{nil}
+	}
+	var l [][]int
+	for _, o := range Orders(n - 1) {
+		for at := range n {
+			l = append(l, slices.Insert(slices.Clone(o), at, n-1))
+		}
+	}
+	return l
+}
+
+// Shuffled draws one order of the numbers below n.
+func Shuffled(n int, seed *uint64) []int {
+	l := make([]int, n)
+	for k := range l {
+		l[k] = k
+	}
+	for k := range l {
+		j := k + Below(seed, n-k)
+		l[k], l[j] = l[j], l[k]
+	}
+	return l
 }
 
 // NoSizes has all from -9 to 70 that are no size in bytes, and numbers far off, whose low bytes are a size, or which times 8 go round.

@@ -47,6 +47,56 @@ func TestBelowTellsAllBelow(t *testing.T) {
 	}
 }
 
+func TestBytesAreAllBut0(t *testing.T) {
+	seed := uint64(2)
+	seen := make([]int, 256)
+	for length := range 200 {
+		l := Bytes(length, &seed)
+		if len(l) != length {
+			t.Errorf("%d bytes, not %d", len(l), length)
+		}
+		for _, b := range l {
+			seen[b]++
+		}
+	}
+	if seen[0] != 0 || slices.Contains(seen[1:], 0) {
+		t.Errorf("of each byte: %v", seen)
+	}
+}
+
+func TestOrdersAreAll(t *testing.T) {
+	for n, want := range []int{1, 1, 2, 6, 24, 120} {
+		l := Orders(n)
+		slices.SortFunc(l, slices.Compare)
+		if l = slices.CompactFunc(l, slices.Equal); len(l) != want {
+			t.Errorf("of %d numbers: %d orders, not %d", n, len(l), want)
+		}
+		for _, o := range l {
+			for k, x := range slices.Sorted(slices.Values(o)) {
+				if x != k || len(o) != n {
+					t.Errorf("of %d numbers: %v", n, o)
+				}
+			}
+		}
+	}
+}
+
+func TestShuffledTellsAllOrders(t *testing.T) {
+	seed := uint64(3)
+	seen := map[[3]int]int{}
+	for range 600 {
+		seen[[3]int(Shuffled(3, &seed))]++
+	}
+	for _, o := range Orders(3) {
+		if seen[[3]int(o)] < 20 {
+			t.Errorf("%v: %d times of 600", o, seen[[3]int(o)])
+		}
+	}
+	if len(seen) != 6 {
+		t.Errorf("of 3 numbers: %v", seen)
+	}
+}
+
 func TestNoSizesHasNoSize(t *testing.T) {
 	l := NoSizes()
 	for n := -9; n <= 70; n++ {
