@@ -74,7 +74,7 @@ func NoSizes() []int {
 	return l
 }
 
-// Outside has numbers that are not from first to last, which are of 0 to 255: near, far, with low bytes that may be, and with products that go round.
+// Outside has numbers that are not from first to last, which are near 0: near, far, with low bytes that may be, and with products that go round.
 func Outside(first, last int) []int {
 	l := []int{
 		math.MinInt, math.MinInt + 1, math.MinInt + 8, -1 << 62, -1 << 61, -1 << 32, -1<<32 + 1, -256, -255,
@@ -83,7 +83,7 @@ func Outside(first, last int) []int {
 	for i := range 64 {
 		l = append(l, first-1-i, last+1+i)
 	}
-	return l
+	return slices.DeleteFunc(l, func(n int) bool { return n >= first && n <= last })
 }
 
 // UpTo has the numbers from 1 on.

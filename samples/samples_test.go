@@ -107,7 +107,7 @@ func TestNoSizesHasNoSize(t *testing.T) {
 }
 
 func TestOutsideIsOutside(t *testing.T) {
-	for _, ends := range [][2]int{{0, 0}, {1, 16}, {1, 32}, {0, 15}} {
+	for _, ends := range [][2]int{{0, 0}, {1, 16}, {1, 32}, {0, 15}, {1, 256}, {0, 599}} {
 		l := Outside(ends[0], ends[1])
 		for _, n := range l {
 			if n >= ends[0] && n <= ends[1] {
