@@ -288,17 +288,6 @@ func TestPutFlags(t *testing.T) { // P11.2
 	}
 }
 
-// lengths has lists of lengths other than that of b, nil and empty among them; most begin as b does.
-func lengths(b []byte) [][]byte {
-	l := [][]byte{nil, {}, b[:0], b[:len(b)-1], append(bytes.Clone(b), 0), append(bytes.Clone(b), b...), make([]byte, 256+len(b)), append(bytes.Clone(b), make([]byte, 1<<16)...)}
-	for n := range 40 {
-		if n != len(b) {
-			l = append(l, slices.Concat(b, make([]byte, 40))[:n])
-		}
-	}
-	return l
-}
-
 // partly tells maps that are empty, have a key, have some with free slots between, and are full.
 func partly(t *testing.T, s shape, seed *uint64) ([]*Hash, []*kept) {
 	t.Helper()
@@ -329,15 +318,15 @@ func TestPutOfOtherLengthsOrFlags(t *testing.T) { // P11.2
 			for _, key := range [][]byte{number(s.key, 3), number(s.key, 17)} {
 				value := samples.Bytes(s.size, &seed)
 				for flags := range uint64(3) {
-					for _, short := range lengths(key) {
+					for _, short := range samples.OtherLengths(key) {
 						refused(t, h, has[i], short, value, flags, api.EINVAL)
 					}
-					for _, short := range lengths(value) {
+					for _, short := range samples.OtherLengths(value) {
 						refused(t, h, has[i], key, short, flags, api.EINVAL)
 					}
 					refused(t, h, has[i], key[1:], value[1:], flags, api.EINVAL)
 				}
-				for _, flags := range noFlags() {
+				for _, flags := range samples.NoFlags() {
 					refused(t, h, has[i], key, value, flags, api.EINVAL)
 					refused(t, h, has[i], key[1:], value, flags, api.EINVAL)
 					refused(t, h, has[i], key, value[1:], flags, api.EINVAL)
@@ -346,14 +335,6 @@ func TestPutOfOtherLengthsOrFlags(t *testing.T) { // P11.2
 			hold(t, h, has[i])
 		}
 	}
-}
-
-func noFlags() []uint64 {
-	l := []uint64{1<<63 + 1, 1<<63 + 2, math.MaxUint64, math.MaxUint64 - 1}
-	for i := 2; i < 64; i++ {
-		l = append(l, 1<<i-1, 1<<i, 1<<i+1, 1<<i+2)
-	}
-	return l
 }
 
 func TestTheErrorNamedFirst(t *testing.T) { // P11.2, P11.3
@@ -386,7 +367,7 @@ func TestDropOfWhatIsNotThere(t *testing.T) { // P11.3
 	for _, s := range shapes() {
 		maps, has := partly(t, s, &seed)
 		for i, h := range maps {
-			for _, short := range lengths(number(s.key, 3)) {
+			for _, short := range samples.OtherLengths(number(s.key, 3)) {
 				drop(t, h, has[i], short)
 			}
 			for x := 16; x < 20; x++ {
@@ -410,7 +391,7 @@ func TestFindOfOtherLengths(t *testing.T) { // P11.1
 		maps, has := partly(t, s, &seed)
 		for i, h := range maps {
 			for k := range s.n {
-				for _, key := range lengths(number(s.key, (k*7+3)%16)) {
+				for _, key := range samples.OtherLengths(number(s.key, (k*7+3)%16)) {
 					if at, ok := h.Find(key); at != 0 || ok {
 						t.Fatalf("Find(%v) of keys of %d bytes: %d, %v", key, s.key, at, ok)
 					}
@@ -804,7 +785,7 @@ func TestNilMap(t *testing.T) { // P11.1, P11.2, P11.3
 			if err := h.Drop(b); err != api.EINVAL {
 				t.Errorf("Drop(%v) of nil: %d", b, err)
 			}
-			for _, flags := range append(noFlags(), 0, 1, 2) {
+			for _, flags := range append(samples.NoFlags(), 0, 1, 2) {
 				refused(t, h, nil, b, b, flags, api.EINVAL)
 			}
 		}

@@ -134,22 +134,13 @@ func filled(t *testing.T, c shape, some int, seed *uint64) (*Local, *kept) {
 	return s, m
 }
 
-// beside has objects that are almost the same.
-func beside(key api.Key) []api.Key {
-	return []api.Key{
-		{Id: key.Id, Gen: key.Gen + 1}, {Id: key.Id, Gen: key.Gen - 1}, {Id: key.Id + 1, Gen: key.Gen}, {Id: key.Id - 1, Gen: key.Gen},
-		{Id: key.Gen, Gen: key.Id}, {Id: -key.Id, Gen: key.Gen}, {Id: key.Id, Gen: -key.Gen}, {Id: key.Id + 1, Gen: key.Gen - 1},
-		{Id: key.Id + 1<<32, Gen: key.Gen}, {Id: key.Id, Gen: key.Gen + 1<<32}, {Id: key.Id}, {Gen: key.Gen}, {},
-	}
-}
-
 // hold holds all that a storage tells against what a test has kept of it.
 func hold(t *testing.T, s *Local, m *kept) {
 	t.Helper()
 	for _, key := range m.objects {
 		get(t, s, m, key, false)
 		get(t, s, m, key, true)
-		for _, other := range beside(key) {
+		for _, other := range samples.Beside(key) {
 			get(t, s, m, other, false)
 		}
 	}
@@ -293,7 +284,7 @@ func TestWhatIsNotThere(t *testing.T) { // P12.2, P12.3
 			s, m := filled(t, c, some, &seed)
 			absent := []api.Key{{}, object(some), object(some + 1)}
 			for x := range some {
-				absent = append(absent, beside(object(x))...)
+				absent = append(absent, samples.Beside(object(x))...)
 			}
 			for _, key := range absent {
 				if slices.Contains(m.objects, key) {
@@ -445,14 +436,10 @@ func TestBytesOfASlotThatNobodyHas(t *testing.T) { // P12.2, P12.3
 	}
 }
 
-func edges() []int {
-	return []int{math.MinInt, math.MinInt + 1, -1 << 32, -2, -1, 0, 1, 2, 1 << 32, 1<<32 + 1, math.MaxInt - 1, math.MaxInt}
-}
-
 func TestObjectsAreComparedAsAWhole(t *testing.T) { // P12.2, P12.3, P12.4
 	var all []api.Key
-	for _, id := range edges() {
-		for _, gen := range edges() {
+	for _, id := range samples.Ends() {
+		for _, gen := range samples.Ends() {
 			all = append(all, api.Key{Id: id, Gen: gen})
 		}
 	}
@@ -479,7 +466,7 @@ func TestObjectsAreComparedAsAWhole(t *testing.T) { // P12.2, P12.3, P12.4
 // gens has sixteen objects of one number, or of one generation.
 func gens(of func(x int) api.Key) []api.Key {
 	var l []api.Key
-	for _, x := range append(edges(), 3, 4, -3, -4) {
+	for _, x := range append(samples.Ends(), 3, 4, -3, -4) {
 		l = append(l, of(x))
 	}
 	return l
@@ -487,7 +474,7 @@ func gens(of func(x int) api.Key) []api.Key {
 
 func TestManyOfOneNumber(t *testing.T) { // P12.2, P12.3, P12.4
 	seed := uint64(7)
-	for _, x := range edges() {
+	for _, x := range samples.Ends() {
 		for _, keys := range [][]api.Key{
 			gens(func(gen int) api.Key { return api.Key{Id: x, Gen: gen} }),
 			gens(func(id int) api.Key { return api.Key{Id: id, Gen: x} }),

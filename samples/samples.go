@@ -1,10 +1,13 @@
-// Package samples has numbers, their orders, what is known of them, and bytes, for the tests of the layers' packages; none of these calls it.
+// Package samples has numbers, their orders, what is known of them, bytes, and objects, for the tests of the layers' packages; none of these calls it.
 package samples
 
 import (
+	"bytes"
 	"math"
 	"math/bits"
 	"slices"
+
+	"halberd/api"
 )
 
 // next is the same for the same seed, as a test that fails must fail once more.
@@ -86,6 +89,20 @@ func Outside(first, last int) []int {
 	return slices.DeleteFunc(l, func(n int) bool { return n >= first && n <= last })
 }
 
+// Ends has the least and the greatest numbers, and those about 0 and 2^32.
+func Ends() []int {
+	return []int{math.MinInt, math.MinInt + 1, -1 << 32, -2, -1, 0, 1, 2, 1 << 32, 1<<32 + 1, math.MaxInt - 1, math.MaxInt}
+}
+
+// NoFlags has numbers above 2: near, far, and with low bits that may be.
+func NoFlags() []uint64 {
+	l := []uint64{1<<63 + 1, 1<<63 + 2, math.MaxUint64, math.MaxUint64 - 1}
+	for i := 2; i < 64; i++ {
+		l = append(l, 1<<i-1, 1<<i, 1<<i+1, 1<<i+2)
+	}
+	return l
+}
+
 // UpTo has the numbers from 1 on.
 func UpTo(most int) []int {
 	var l []int
@@ -93,6 +110,26 @@ func UpTo(most int) []int {
 		l = append(l, i+1)
 	}
 	return l
+}
+
+// OtherLengths has lists of lengths other than that of b, which has at least one byte, nil and empty among them; most begin as b does.
+func OtherLengths(b []byte) [][]byte {
+	l := [][]byte{nil, {}, b[:0], b[:len(b)-1], append(bytes.Clone(b), 0), append(bytes.Clone(b), b...), make([]byte, 256+len(b)), append(bytes.Clone(b), make([]byte, 1<<16)...)}
+	for n := range 40 {
+		if n != len(b) {
+			l = append(l, slices.Concat(b, make([]byte, 40))[:n])
+		}
+	}
+	return l
+}
+
+// Beside has objects that are almost the same as one, and, of one with a 0, itself.
+func Beside(key api.Key) []api.Key {
+	return []api.Key{
+		{Id: key.Id, Gen: key.Gen + 1}, {Id: key.Id, Gen: key.Gen - 1}, {Id: key.Id + 1, Gen: key.Gen}, {Id: key.Id - 1, Gen: key.Gen},
+		{Id: key.Gen, Gen: key.Id}, {Id: -key.Id, Gen: key.Gen}, {Id: key.Id, Gen: -key.Gen}, {Id: key.Id + 1, Gen: key.Gen - 1},
+		{Id: key.Id + 1<<32, Gen: key.Gen}, {Id: key.Id, Gen: key.Gen + 1<<32}, {Id: key.Id}, {Gen: key.Gen}, {},
+	}
 }
 
 // TurnAll turns each byte of a list, so that whoever shares it is seen.

@@ -4,6 +4,8 @@ import (
 	"math"
 	"slices"
 	"testing"
+
+	"halberd/api"
 )
 
 func TestTheSameForTheSameSeed(t *testing.T) {
@@ -122,9 +124,64 @@ func TestOutsideIsOutside(t *testing.T) {
 	}
 }
 
+func TestEndsAreAtTheEnds(t *testing.T) {
+	l := Ends()
+	if !slices.IsSorted(l) || len(slices.Compact(slices.Clone(l))) != len(l) {
+		t.Errorf("ends: %v", l)
+	}
+	for _, n := range []int{math.MinInt, -1, 0, 1, math.MaxInt} {
+		if !slices.Contains(l, n) {
+			t.Errorf("%d isn't among %v", n, l)
+		}
+	}
+}
+
+func TestNoFlagsAreAbove2(t *testing.T) {
+	l := NoFlags()
+	if slices.Min(l) != 3 || slices.Max(l) != math.MaxUint64 {
+		t.Errorf("from %d to %d", slices.Min(l), slices.Max(l))
+	}
+	for _, low := range []uint64{0, 1, 2} {
+		for _, bits := range []int{8, 16, 32, 63} {
+			if !slices.Contains(l, 1<<bits+low) {
+				t.Errorf("2^%d + %d isn't among them", bits, low)
+			}
+		}
+	}
+}
+
 func TestUpToHasBothEnds(t *testing.T) {
 	if l := UpTo(3); !slices.Equal(l, []int{1, 2, 3}) {
 		t.Errorf("up to 3: %v", l)
+	}
+}
+
+func TestOtherLengthsAreOther(t *testing.T) {
+	for length := 1; length <= 32; length++ {
+		b := slices.Repeat([]byte{7}, length)
+		seen := map[int]bool{}
+		for _, other := range OtherLengths(b) {
+			seen[len(other)] = true
+		}
+		if seen[length] || !seen[0] || !seen[39] || !seen[length-1] || !seen[length+1] || !seen[1<<16+length] {
+			t.Errorf("other lengths than %d: %v", length, seen)
+		}
+		if !slices.Equal(b, slices.Repeat([]byte{7}, length)) {
+			t.Errorf("what is handed in is %v", b)
+		}
+	}
+}
+
+func TestBesideAnObject(t *testing.T) {
+	key := api.Key{Id: 7, Gen: 2}
+	l := Beside(key)
+	for _, other := range []api.Key{{Id: 7, Gen: 3}, {Id: 7, Gen: 1}, {Id: 8, Gen: 2}, {Id: 6, Gen: 2}, {Id: 2, Gen: 7}, {}} {
+		if !slices.Contains(l, other) {
+			t.Errorf("%v isn't beside %v", other, key)
+		}
+	}
+	if slices.Contains(l, key) {
+		t.Errorf("%v is beside itself", key)
 	}
 }
 
