@@ -233,31 +233,9 @@ func TestFieldsOfNoType(t *testing.T) { // P15.2
 	}
 }
 
-// almost has texts that are almost a name: some bytes less, one more, one turned, one twice, two that changed places.
-func almost(name string) []string {
-	var l []string
-	for i := range len(name) {
-		l = append(l, name[:i], name[i:], name[:i]+name[i+1:], name[:i]+name[i:i+1]+name[i:], name[:i]+name[i+1:]+name[i:i+1])
-	}
-	for c := range 256 {
-		s := string([]byte{byte(c)})
-		for i := range len(name) {
-			l = append(l, name[:i]+s+name[i:], name[:i]+s+name[i+1:])
-		}
-		l = append(l, name+s)
-	}
-	return l
-}
-
 func TestNamesThatAreAlmostRight(t *testing.T) { // P15.1, P15.2
 	for _, name := range names() {
-		for _, s := range almost(name) {
-			holdName(t, s)
-		}
-		for _, s := range []string{
-			string(bytes.ToUpper([]byte(name))), string(bytes.ToTitle([]byte(name[:1]))) + name[1:],
-			" " + name, name + " ", name + "\n", name + "\x00", "\x00" + name, "\ufeff" + name, name + "\u0301", name + name, name + "," + name, "/" + name, "hook_" + name, "Hook" + name,
-		} {
+		for _, s := range samples.Almost(name) {
 			holdName(t, s)
 		}
 		for _, other := range names() {
@@ -267,41 +245,28 @@ func TestNamesThatAreAlmostRight(t *testing.T) { // P15.1, P15.2
 }
 
 func TestNamesThatAreNone(t *testing.T) { // P15.1, P15.2
-	for _, name := range []string{
-		"", " ", "\x00", "\xff", "\xff\xfe", "-", "0", "1", "12", "16", "17", "Open", "OPEN", "oPEN", "оpen", "ｏｐｅｎ", "read", "write", "close", "stat", "setuid", "owner", "type",
-		"task", "inode", "number", "null", "generation", "ino\x00", "\u2028", "open\u200b",
-	} {
+	for _, name := range append(samples.NoNames(),
+		"Open", "OPEN", "oPEN", "\u043epen", "read", "write", "close", "stat", "setuid", "owner", "type",
+		"task", "inode", "number", "null", "generation", "ino\x00", "open\u200b",
+	) {
 		if hook := By(name); hook != 0 {
-			t.Errorf("By(%q): %d", name, hook)
+			t.Errorf("By(%.40q): %d", name, hook)
 		}
 		for _, typ := range []int{1, 2} {
 			if at, ok := Field(typ, name); at != 0 || ok {
-				t.Errorf("Field(%d, %q): %d, %v", typ, name, at, ok)
+				t.Errorf("Field(%d, %.40q): %d, %v", typ, name, at, ok)
 			}
 		}
 	}
-	holdName(t, string(bytes.Repeat([]byte("open"), 1<<16)))
-	holdName(t, string(make([]byte, 1<<20)))
 }
 
 func TestAllNamesOfFewLetters(t *testing.T) { // P15.1, P15.2
-	right := map[string]bool{}
-	for _, name := range names() {
-		right[name] = true
-	}
-	l := []string{""}
-	for range 4 {
-		var longer []string
-		for _, name := range l {
-			for c := 'a'; c <= 'z'; c++ {
-				longer = append(longer, name+string(c))
-			}
-		}
-		l = longer
-		for _, name := range l {
+	right := names()
+	for letters := range 5 {
+		for _, name := range samples.Texts(letters) {
 			_, task := Field(1, name)
 			_, inode := Field(2, name)
-			if !right[name] && (By(name) != 0 || task || inode) {
+			if (By(name) != 0 || task || inode) && !slices.Contains(right, name) {
 				t.Fatalf("%q: By %d, Field %v, %v", name, By(name), task, inode)
 			}
 		}
