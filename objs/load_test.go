@@ -4,6 +4,7 @@ import (
 	"bytes"
 	"math"
 	"reflect"
+	"strconv"
 	"strings"
 	"testing"
 
@@ -245,17 +246,41 @@ func TestAPathThatWasToldIsWrittenOver(t *testing.T) { // P17.3
 	}
 }
 
+// insideAgain is Inside told once more, by the numbers as they are written.
+func insideAgain(up []int, pid uint64) bool {
+	for _, p := range up {
+		if strconv.Itoa(p) == strconv.FormatUint(pid, 10) {
+			return true
+		}
+	}
+	return false
+}
+
 func TestInside(t *testing.T) { // P17.3
 	o := task(1)
 	for _, up := range [][]int{nil, {}, {1}, {5, 3, 1}, {2, 2, 2}, {1, 2, 3, 4, 5, 6, 7, 8}, {0}, {math.MaxInt}, {7, math.MaxInt, 1 << 32, 256}} {
 		o.Up = up
 		for _, pid := range append(someWords(), math.MaxInt64, math.MaxInt64-1) {
-			is := false
-			for _, p := range up {
-				is = is || uint64(p) == pid
-			}
-			if got := Inside(o, pid); got != is {
+			if got := Inside(o, pid); got != insideAgain(up, pid) {
 				t.Errorf("is %d inside %v? %v", pid, up, got)
+			}
+		}
+	}
+}
+
+func TestNumbersBelowZeroAreNoPids(t *testing.T) { // P17.3
+	below := []int{-1, -2, -8, -128, -256, -1 << 16, -1 << 31, -1 << 32, math.MinInt + 1, math.MinInt}
+	for _, n := range below {
+		for _, up := range [][]int{{n}, {5, n}, {n, 5}, {5, n, 7}, {n, n}, below} {
+			o := task(1)
+			o.Up = up
+			for _, p := range append([]int{0, 5, 7, -n, math.MaxInt}, below...) {
+				pid := uint64(p)
+				for _, x := range []uint64{pid, pid - 1, pid + 1, ^pid, pid & math.MaxUint32, pid & math.MaxInt64} {
+					if got := Inside(o, x); got != insideAgain(up, x) {
+						t.Errorf("is %d inside %v? %v", x, up, got)
+					}
+				}
 			}
 		}
 	}
