@@ -51,7 +51,7 @@ func holdLoad(t *testing.T, o api.Obj, at int64, size int) {
 
 // drawnObj draws an object of either type; its fields have no byte 0.
 func drawnObj(seed *uint64) api.Obj {
-	o := []api.Obj{task(3), inode(3)}[samples.Below(seed, 2)]
+	o := []api.Obj{samples.Task(3), samples.Inode(3)}[samples.Below(seed, 2)]
 	for i := range o.F {
 		for range 8 {
 			o.F[i] = o.F[i]<<8 | uint64(1+samples.Below(seed, 255))
@@ -61,7 +61,7 @@ func drawnObj(seed *uint64) api.Obj {
 }
 
 func TestLoadOfAMode(t *testing.T) { // P17.1
-	o := inode(1)
+	o := samples.Inode(1)
 	o.F[2] = 0o100644
 	if x, ok := Load(o, 16, 8); x != 0o100644 || !ok {
 		t.Errorf("an inode's mode, at 16: %#o, %v", x, ok)
@@ -112,7 +112,7 @@ func TestEachPlaceAndSize(t *testing.T) { // P17.1
 }
 
 func TestTheLastBytes(t *testing.T) { // P17.1
-	o := task(1)
+	o := samples.Task(1)
 	for _, c := range []struct {
 		at   int64
 		size int
@@ -203,7 +203,7 @@ func TestPathByHand(t *testing.T) { // P17.3
 func TestPathsShorterAsLongAndLonger(t *testing.T) { // P17.3
 	seed := uint64(5)
 	for length := range 70 {
-		o := inode(1)
+		o := samples.Inode(1)
 		o.Path = string(samples.Bytes(length, &seed))
 		for n := -2; n <= 70; n++ {
 			holdPath(t, o, n)
@@ -229,7 +229,7 @@ func TestPathsOfAnyBytes(t *testing.T) { // P17.3
 func TestAPathThatWasToldIsWrittenOver(t *testing.T) { // P17.3
 	seed := uint64(6)
 	for length := range 40 {
-		o := inode(1)
+		o := samples.Inode(1)
 		path := samples.Bytes(length, &seed)
 		o.Path = string(path)
 		for n := 1; n <= 32; n++ {
@@ -257,7 +257,7 @@ func insideAgain(up []int, pid uint64) bool {
 }
 
 func TestInside(t *testing.T) { // P17.3
-	o := task(1)
+	o := samples.Task(1)
 	for _, up := range [][]int{nil, {}, {1}, {5, 3, 1}, {2, 2, 2}, {1, 2, 3, 4, 5, 6, 7, 8}, {0}, {math.MaxInt}, {7, math.MaxInt, 1 << 32, 256}} {
 		o.Up = up
 		for _, pid := range append(someWords(), math.MaxInt64, math.MaxInt64-1) {
@@ -272,7 +272,7 @@ func TestNumbersBelowZeroAreNoPids(t *testing.T) { // P17.3
 	below := []int{-1, -2, -8, -128, -256, -1 << 16, -1 << 31, -1 << 32, math.MinInt + 1, math.MinInt}
 	for _, n := range below {
 		for _, up := range [][]int{{n}, {5, n}, {n, 5}, {5, n, 7}, {n, n}, below} {
-			o := task(1)
+			o := samples.Task(1)
 			o.Up = up
 			for _, p := range append([]int{0, 5, 7, -n, math.MaxInt}, below...) {
 				pid := uint64(p)
@@ -289,7 +289,7 @@ func TestNumbersBelowZeroAreNoPids(t *testing.T) { // P17.3
 func TestInsideEachPid(t *testing.T) { // P17.3
 	seed := uint64(7)
 	for n := range 12 {
-		o := task(1)
+		o := samples.Task(1)
 		o.Up = samples.Shuffled(n, &seed)
 		spare := append(o.Up, 50, 51)
 		o.Up = spare[:n]
@@ -323,7 +323,7 @@ func TestKey(t *testing.T) { // P17.4
 	for _, typ := range []int{0, 1, 2, 3} {
 		for _, id := range samples.Ends() {
 			for _, gen := range samples.Ends() {
-				o := task(3)
+				o := samples.Task(3)
 				o.Type, o.Key = typ, api.Key{Id: id, Gen: gen}
 				if got := Key(o); got.Id != id || got.Gen != gen {
 					t.Errorf("Key of {%d %d}: %v", id, gen, got)
@@ -338,12 +338,12 @@ func TestObjectsStayAsTheyAre(t *testing.T) { // P17.1, P17.3, P17.4
 	for range 500 {
 		o := drawnObj(&seed)
 		o.Up = append(make([]int, 0, 8), o.Up...)
-		was := deepObj(o)
+		was := samples.DeepObj(o)
 		Load(o, int64(samples.Below(&seed, 66)-1), 8)
 		Path(o, samples.Below(&seed, 34))
 		Inside(o, uint64(samples.Below(&seed, 5)))
 		Key(o)
-		if now := deepObj(o); !reflect.DeepEqual(now, was) {
+		if now := samples.DeepObj(o); !reflect.DeepEqual(now, was) {
 			t.Fatalf("%+v is %+v now", was, now)
 		}
 	}

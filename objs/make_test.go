@@ -16,7 +16,7 @@ func null() api.Part         { return api.Part{Null: true} }
 // partsOf tells parts that say a context's words; of what isn't right some parts.
 func partsOf(c api.Context) []api.Part {
 	var l []api.Part
-	for i, letter := range shapes()[c.Hook] {
+	for i, letter := range samples.Shapes()[c.Hook] {
 		x := c.Words[i]
 		switch {
 		case letter == '-':
@@ -34,7 +34,7 @@ func partsOf(c api.Context) []api.Part {
 // makeAgain is Make told once more, by letters.
 func makeAgain(hook int, now uint64, l []api.Part) (api.Context, bool) {
 	c := api.Context{Hook: hook, Now: now}
-	shape := (shapes()[hook] + "--------")[:8]
+	shape := (samples.Shapes()[hook] + "--------")[:8]
 	if hook < 1 || hook > 16 || len(l) > 8 {
 		return api.Context{}, false
 	}
@@ -121,7 +121,7 @@ func holdMade(t *testing.T, c api.Context, l []api.Part) {
 }
 
 func TestMakeOfChdir(t *testing.T) { // P17.4
-	a, b := task(1), inode(2)
+	a, b := samples.Task(1), samples.Inode(2)
 	c, ok := Make(api.HookChdir, 9, obj(a), obj(b))
 	if c.Hook != 15 || c.Now != 9 || c.Words != [8]uint64{1, 2} || len(c.Objs) != 2 || !ok {
 		t.Fatalf("of chdir: %+v, %v", c, ok)
@@ -132,7 +132,7 @@ func TestMakeOfChdir(t *testing.T) { // P17.4
 }
 
 func TestMakeByHand(t *testing.T) { // P17.4
-	a, b := task(1), inode(2)
+	a, b := samples.Task(1), samples.Inode(2)
 	for _, x := range []struct {
 		hook  int
 		parts []api.Part
@@ -158,7 +158,7 @@ func TestMakeByHand(t *testing.T) { // P17.4
 }
 
 func TestMakeOfEveryHook(t *testing.T) { // P17.4, P17.5
-	for _, c := range allContexts() {
+	for _, c := range samples.AllContexts() {
 		got, ok := Make(c.Hook, c.Now, partsOf(c)...)
 		if !same(got, c) || !ok {
 			t.Errorf("made: %+v, %v, not %+v", got, ok, c)
@@ -177,7 +177,7 @@ func TestMakeOfEveryHook(t *testing.T) { // P17.4, P17.5
 
 func TestNumbersOfPartsMayBeAny(t *testing.T) { // P17.4, P17.5
 	seed := uint64(1)
-	for _, c := range allContexts() {
+	for _, c := range samples.AllContexts() {
 		for range 20 {
 			l := partsOf(c)
 			for i := range l {
@@ -193,7 +193,7 @@ func TestNumbersOfPartsMayBeAny(t *testing.T) { // P17.4, P17.5
 }
 
 func TestOnePartFewerOrMore(t *testing.T) { // P17.4
-	for _, c := range allContexts() {
+	for _, c := range samples.AllContexts() {
 		l := partsOf(c)
 		for n := range len(l) {
 			if got, ok := Make(c.Hook, 1, l[:n]...); ok || !same(got, api.Context{}) {
@@ -203,7 +203,7 @@ func TestOnePartFewerOrMore(t *testing.T) { // P17.4
 				t.Errorf("hook %d without part %d: %+v", c.Hook, n, got)
 			}
 		}
-		for _, more := range []api.Part{num(0), num(1), null(), obj(task(1)), obj(inode(1)), obj(api.Obj{})} {
+		for _, more := range []api.Part{num(0), num(1), null(), obj(samples.Task(1)), obj(samples.Inode(1)), obj(api.Obj{})} {
 			d := append(l[:len(l):len(l)], more)
 			if got, ok := Make(c.Hook, 1, d...); ok || !same(got, api.Context{}) {
 				t.Errorf("hook %d with %+v behind: %+v", c.Hook, more, got)
@@ -221,7 +221,7 @@ func TestOnePartFewerOrMore(t *testing.T) { // P17.4
 
 func TestMakeOfNoHook(t *testing.T) { // P17.4
 	for _, hook := range append(samples.Outside(1, 16), 0, 17, -1, math.MaxInt, math.MinInt) {
-		for _, l := range [][]api.Part{nil, {}, {num(0)}, {obj(task(1)), obj(inode(1))}, {obj(task(1)), num(1)}, {null()}} {
+		for _, l := range [][]api.Part{nil, {}, {num(0)}, {obj(samples.Task(1)), obj(samples.Inode(1))}, {obj(samples.Task(1)), num(1)}, {null()}} {
 			if got, ok := Make(hook, 1, l...); ok || !same(got, api.Context{}) {
 				t.Errorf("hook %d of %+v: %+v", hook, l, got)
 			}
@@ -230,7 +230,7 @@ func TestMakeOfNoHook(t *testing.T) { // P17.4
 }
 
 func TestPartsOfOtherHooks(t *testing.T) { // P17.4
-	for _, c := range allContexts() {
+	for _, c := range samples.AllContexts() {
 		for hook := range 18 {
 			holdMake(t, hook, 1, partsOf(c)...)
 		}
@@ -239,12 +239,12 @@ func TestPartsOfOtherHooks(t *testing.T) { // P17.4
 
 // otherParts has parts of each kind, some both null and an object, objects of any type, numbers that name objects.
 func otherParts() []api.Part {
-	l := []api.Part{null(), {Null: true, Num: 1}, {Null: true, Has: true, Obj: task(4)}, {Null: true, Has: true, Obj: inode(4)}, {Obj: task(4)}, {Obj: inode(4), Num: 1}}
+	l := []api.Part{null(), {Null: true, Num: 1}, {Null: true, Has: true, Obj: samples.Task(4)}, {Null: true, Has: true, Obj: samples.Inode(4)}, {Obj: samples.Task(4)}, {Obj: samples.Inode(4), Num: 1}}
 	for _, x := range []uint64{0, 1, 2, 3, 4, 5, math.MaxUint64} {
 		l = append(l, num(x))
 	}
 	for _, typ := range []int{0, 1, 2, 3, 4, -1, 1 << 32, 1<<32 + 1, 1<<32 + 2, math.MaxInt, math.MinInt} {
-		o := task(4)
+		o := samples.Task(4)
 		o.Type = typ
 		l = append(l, obj(o))
 	}
@@ -252,7 +252,7 @@ func otherParts() []api.Part {
 }
 
 func TestEachPartTurned(t *testing.T) { // P17.4, P17.5
-	for _, c := range allContexts() {
+	for _, c := range samples.AllContexts() {
 		for i := range partsOf(c) {
 			for _, p := range otherParts() {
 				l := partsOf(c)
@@ -269,15 +269,15 @@ func TestEachPartTurned(t *testing.T) { // P17.4, P17.5
 }
 
 func TestPartsOfTheWrongKind(t *testing.T) { // P17.4
-	for hook, shape := range shapes() {
-		l := contexts(hook)
+	for hook, shape := range samples.Shapes() {
+		l := samples.Contexts(hook)
 		good := partsOf(l[len(l)-1])
 		for i := range good {
 			wrong := map[byte][]api.Part{
-				'n': {null(), obj(task(1)), obj(inode(1)), {Null: true, Num: 5}, {Has: true, Num: 5}, {Null: true, Has: true, Obj: task(1)}},
-				'T': {null(), num(0), num(1), num(2), obj(inode(1)), obj(api.Obj{}), obj(api.Obj{Type: 3}), {Obj: task(1)}, {Null: true, Has: true, Obj: task(1)}},
-				'I': {null(), num(0), num(1), num(2), obj(task(1)), obj(api.Obj{}), obj(api.Obj{Type: 3}), {Obj: inode(1)}, {Null: true, Has: true, Obj: inode(1)}},
-				'i': {num(0), num(1), num(2), num(3), obj(task(1)), obj(api.Obj{}), obj(api.Obj{Type: 3}), {Obj: inode(1)}},
+				'n': {null(), obj(samples.Task(1)), obj(samples.Inode(1)), {Null: true, Num: 5}, {Has: true, Num: 5}, {Null: true, Has: true, Obj: samples.Task(1)}},
+				'T': {null(), num(0), num(1), num(2), obj(samples.Inode(1)), obj(api.Obj{}), obj(api.Obj{Type: 3}), {Obj: samples.Task(1)}, {Null: true, Has: true, Obj: samples.Task(1)}},
+				'I': {null(), num(0), num(1), num(2), obj(samples.Task(1)), obj(api.Obj{}), obj(api.Obj{Type: 3}), {Obj: samples.Inode(1)}, {Null: true, Has: true, Obj: samples.Inode(1)}},
+				'i': {num(0), num(1), num(2), num(3), obj(samples.Task(1)), obj(api.Obj{}), obj(api.Obj{Type: 3}), {Obj: samples.Inode(1)}},
 			}[shape[i]]
 			for _, p := range wrong {
 				d := append([]api.Part(nil), good...)
@@ -293,11 +293,11 @@ func TestPartsOfTheWrongKind(t *testing.T) { // P17.4
 func TestNullAndAnObject(t *testing.T) { // P17.4
 	for _, typ := range []int{0, 1, 2, 3} {
 		both := api.Part{Null: true, Has: true, Obj: api.Obj{Type: typ}, Num: 7}
-		c, ok := Make(api.HookExec, 1, obj(task(1)), obj(inode(2)), both)
+		c, ok := Make(api.HookExec, 1, obj(samples.Task(1)), obj(samples.Inode(2)), both)
 		if !ok || c.Words != [8]uint64{1, 2} || len(c.Objs) != 2 {
 			t.Errorf("null and an object of type %d: %+v, %v", typ, c, ok)
 		}
-		c, ok = Make(api.HookMmap, 1, obj(task(1)), both, num(3))
+		c, ok = Make(api.HookMmap, 1, obj(samples.Task(1)), both, num(3))
 		if !ok || c.Words != [8]uint64{1, 0, 3} || len(c.Objs) != 1 {
 			t.Errorf("null and an object of type %d: %+v, %v", typ, c, ok)
 		}
@@ -305,9 +305,9 @@ func TestNullAndAnObject(t *testing.T) { // P17.4
 }
 
 func TestObjectsHaveOnePlaceEach(t *testing.T) { // P17.4, P17.5
-	a, b, d := inode(1), inode(2), inode(3)
+	a, b, d := samples.Inode(1), samples.Inode(2), samples.Inode(3)
 	for _, l := range [][]api.Obj{{a, b, d, a}, {a, a, a, a}, {d, b, a, b}, {b, b, a, a}} {
-		c, ok := Make(api.HookRename, 1, obj(task(1)), obj(l[0]), obj(l[1]), obj(l[2]), obj(l[3]))
+		c, ok := Make(api.HookRename, 1, obj(samples.Task(1)), obj(l[0]), obj(l[1]), obj(l[2]), obj(l[3]))
 		if !ok || len(c.Objs) != 5 {
 			t.Fatalf("of %v: %+v, %v", l, c, ok)
 		}
@@ -322,7 +322,7 @@ func TestObjectsHaveOnePlaceEach(t *testing.T) { // P17.4, P17.5
 func TestDrawnParts(t *testing.T) { // P17.4, P17.5
 	seed := uint64(2)
 	made, most := 0, otherParts()
-	all := allContexts()
+	all := samples.AllContexts()
 	for range 20000 {
 		c := all[samples.Below(&seed, len(all))]
 		l := partsOf(c)
@@ -359,7 +359,7 @@ func withRoom(l []api.Part) []api.Part {
 func deepParts(l []api.Part) []api.Part {
 	d := append([]api.Part(nil), l[:cap(l)]...)
 	for i := range d {
-		d[i].Obj = deepObj(d[i].Obj)
+		d[i].Obj = samples.DeepObj(d[i].Obj)
 	}
 	return d
 }
@@ -379,13 +379,13 @@ func writeOver(c *api.Context) {
 			up := l[i].Up
 			l[i] = api.Obj{Type: 3 - l[i].Type, Path: "over", Up: up, Key: api.Key{Id: -1, Gen: -1}, F: [8]uint64{99, 98, 97}}
 		}
-		c.Objs = append(c.Objs, task(99), inode(99))
+		c.Objs = append(c.Objs, samples.Task(99), samples.Inode(99))
 	}
 	c.Hook, c.Now, c.Words = 99, 99, [8]uint64{99, 99}
 }
 
 func TestWhatWasMadeIsWrittenOver(t *testing.T) { // P17.4
-	for _, c := range allContexts() {
+	for _, c := range samples.AllContexts() {
 		l := withRoom(partsOf(c))
 		was := deepParts(l)
 		first, _ := Make(c.Hook, c.Now, l...)
@@ -405,7 +405,7 @@ func TestWhatWasMadeIsWrittenOver(t *testing.T) { // P17.4
 }
 
 func TestWhatWasHandedInIsWrittenOver(t *testing.T) { // P17.4
-	for _, c := range allContexts() {
+	for _, c := range samples.AllContexts() {
 		l := withRoom(partsOf(c))
 		got, _ := Make(c.Hook, c.Now, l...)
 		for i := range l {
@@ -423,7 +423,7 @@ func TestWhatWasHandedInIsWrittenOver(t *testing.T) { // P17.4
 
 func TestOneListOfTwoObjects(t *testing.T) { // P17.4
 	up := []int{3, 2, 1}
-	a := task(3)
+	a := samples.Task(3)
 	a.Up = up
 	c, ok := Make(api.HookKill, 1, obj(a), obj(a), num(1))
 	if !ok || len(c.Objs) != 2 {
@@ -441,7 +441,7 @@ func TestOneListOfTwoObjects(t *testing.T) { // P17.4
 
 func TestListsOfObjectsNilAndEmpty(t *testing.T) { // P17.4
 	for _, up := range [][]int{nil, {}, make([]int, 0, 4), {1}, samples.UpTo(1000)} {
-		a := task(3)
+		a := samples.Task(3)
 		a.Up = up
 		holdMake(t, api.HookFork, 1, obj(a), num(4))
 		c, _ := Make(api.HookFork, 1, obj(a), num(4))
@@ -455,7 +455,7 @@ func TestListsOfObjectsNilAndEmpty(t *testing.T) { // P17.4
 
 func TestNothingIsKeptOfWhatWasMade(t *testing.T) { // P17.4, P17.5
 	seed := uint64(3)
-	all := allContexts()
+	all := samples.AllContexts()
 	for range 300 {
 		other, c := all[samples.Below(&seed, len(all))], all[samples.Below(&seed, len(all))]
 		made, _ := Make(other.Hook, samples.Number(&seed), partsOf(other)...)

@@ -1,7 +1,6 @@
 package objs
 
 import (
-	"fmt"
 	"math"
 	"reflect"
 	"testing"
@@ -9,14 +8,6 @@ import (
 	"halberd/api"
 	"halberd/samples"
 )
-
-// shapes tells the words of each hook by letters: T a task, I an inode, i an inode or null, n a number; - is none.
-func shapes() map[int]string {
-	return map[int]string{
-		1: "TIn-----", 2: "TIn-----", 3: "TInn----", 4: "TII-----", 5: "TIIn----", 6: "TIIIi---", 7: "TInnn---", 8: "TIi-----",
-		9: "Tin-----", 10: "Tinn----", 11: "Tn------", 12: "TTn-----", 13: "TTn-----", 14: "Tnn-----", 15: "TI------", 16: "TIn-----",
-	}
-}
 
 // named tells the type of the object that a word names; 0, if it names none.
 func named(c api.Context, x uint64) int {
@@ -30,7 +21,7 @@ func named(c api.Context, x uint64) int {
 
 // isRight is Right told once more, by letters.
 func isRight(c api.Context) bool {
-	shape, ok := shapes()[c.Hook]
+	shape, ok := samples.Shapes()[c.Hook]
 	if !ok || len(c.Objs) > 8 {
 		return false
 	}
@@ -50,10 +41,10 @@ func isRight(c api.Context) bool {
 
 // wordAgain is Word told once more, by letters.
 func wordAgain(c api.Context, i int) (uint64, int, bool) {
-	if !isRight(c) || i < 0 || i > 7 || shapes()[c.Hook][i] == '-' {
+	if !isRight(c) || i < 0 || i > 7 || samples.Shapes()[c.Hook][i] == '-' {
 		return 0, -1, false
 	}
-	if shapes()[c.Hook][i] == 'n' {
+	if samples.Shapes()[c.Hook][i] == 'n' {
 		return c.Words[i], -1, true
 	}
 	for place := range c.Objs {
@@ -83,56 +74,6 @@ func holdWord(t *testing.T, c api.Context, i int) {
 	}
 }
 
-// task and inode tell one of each type, other ones by other numbers.
-func task(n int) api.Obj {
-	o := api.Obj{Type: 1, Key: api.Key{Id: n, Gen: n + 100}, Up: []int{n, n + 1, n + 2}}
-	for i := range o.F {
-		o.F[i] = uint64(n)<<56 + uint64(i)<<8 + 1
-	}
-	return o
-}
-
-func inode(n int) api.Obj {
-	o := task(n)
-	o.Type, o.Path, o.Up = 2, fmt.Sprintf("/dir/%d", n), nil
-	return o
-}
-
-// contexts has right contexts of a hook: with each of its words that may be null null, and with none null. Numbers differ from word to word, objects too.
-func contexts(hook int) []api.Context {
-	l := []api.Context{{Hook: hook, Now: 7}}
-	for i, letter := range shapes()[hook] {
-		var longer []api.Context
-		for _, c := range l {
-			switch letter {
-			case 'n':
-				c.Words[i] = uint64(40 + i)
-			case 'T':
-				c.Objs = append(c.Objs[:len(c.Objs):len(c.Objs)], task(10+i))
-				c.Words[i] = uint64(len(c.Objs))
-			case 'I', 'i':
-				if letter == 'i' {
-					longer = append(longer, c)
-				}
-				c.Objs = append(c.Objs[:len(c.Objs):len(c.Objs)], inode(10+i))
-				c.Words[i] = uint64(len(c.Objs))
-			}
-			longer = append(longer, c)
-		}
-		l = longer
-	}
-	return l
-}
-
-// allContexts has those of all hooks.
-func allContexts() []api.Context {
-	var l []api.Context
-	for hook := 1; hook <= 16; hook++ {
-		l = append(l, contexts(hook)...)
-	}
-	return l
-}
-
 // someWords has numbers that name objects, or none: near, with low bytes that do, and greater than any int.
 func someWords() []uint64 {
 	l := []uint64{1 << 31, 1<<31 + 1, 1<<63 - 1, 1 << 63, 1<<63 + 1, 1<<63 + 2, math.MaxUint64 - 1, math.MaxUint64}
@@ -144,7 +85,7 @@ func someWords() []uint64 {
 
 func TestEveryHook(t *testing.T) { // P17.1, P17.2
 	for hook := 1; hook <= 16; hook++ {
-		l := contexts(hook)
+		l := samples.Contexts(hook)
 		if nulls := map[int]int{6: 2, 8: 2, 9: 2, 10: 2}[hook]; len(l) != max(nulls, 1) {
 			t.Errorf("of hook %d: %d contexts", hook, len(l))
 		}
@@ -158,13 +99,13 @@ func TestEveryHook(t *testing.T) { // P17.1, P17.2
 }
 
 func TestWordsByHand(t *testing.T) { // P17.2
-	c := api.Context{Hook: api.HookRename, Words: [8]uint64{2, 3, 1, 3, 0}, Objs: []api.Obj{inode(5), task(1), inode(6)}}
+	c := api.Context{Hook: api.HookRename, Words: [8]uint64{2, 3, 1, 3, 0}, Objs: []api.Obj{samples.Inode(5), samples.Task(1), samples.Inode(6)}}
 	for i, place := range []int{1, 2, 0, 2, -1} {
 		if x, got, ok := Word(c, i); x != 0 || got != place || !ok {
 			t.Errorf("rename's word %d: %d, %d, %v, not at %d", i, x, got, ok, place)
 		}
 	}
-	c = api.Context{Hook: api.HookSetattr, Words: [8]uint64{2, 1, 0, math.MaxUint64, 1}, Objs: []api.Obj{inode(5), task(1)}}
+	c = api.Context{Hook: api.HookSetattr, Words: [8]uint64{2, 1, 0, math.MaxUint64, 1}, Objs: []api.Obj{samples.Inode(5), samples.Task(1)}}
 	for i, want := range []uint64{0, 0, 0, math.MaxUint64, 1} {
 		place := []int{1, 0, -1, -1, -1}[i]
 		if x, got, ok := Word(c, i); x != want || got != place || !ok {
@@ -180,8 +121,8 @@ func TestWordsByHand(t *testing.T) { // P17.2
 
 func TestNumbersMayBeAny(t *testing.T) { // P17.1, P17.2
 	seed := uint64(1)
-	for _, c := range allContexts() {
-		for i, letter := range shapes()[c.Hook] {
+	for _, c := range samples.AllContexts() {
+		for i, letter := range samples.Shapes()[c.Hook] {
 			if letter != 'n' {
 				continue
 			}
@@ -197,7 +138,7 @@ func TestNumbersMayBeAny(t *testing.T) { // P17.1, P17.2
 }
 
 func TestEachWordTurned(t *testing.T) { // P17.1, P17.2
-	for _, c := range allContexts() {
+	for _, c := range samples.AllContexts() {
 		for i := range c.Words {
 			for _, x := range someWords() {
 				d := c
@@ -209,8 +150,8 @@ func TestEachWordTurned(t *testing.T) { // P17.1, P17.2
 }
 
 func TestWordsThatAHookHasNotAre0(t *testing.T) { // P17.1, P17.2
-	for _, c := range allContexts() {
-		for i, letter := range shapes()[c.Hook] {
+	for _, c := range samples.AllContexts() {
+		for i, letter := range samples.Shapes()[c.Hook] {
 			for _, x := range []uint64{1, 2, 8, 1 << 32, 1 << 63, math.MaxUint64} {
 				d := c
 				d.Words[i] = x
@@ -226,7 +167,7 @@ func TestWordsThatAHookHasNotAre0(t *testing.T) { // P17.1, P17.2
 }
 
 func TestWordsFarOff(t *testing.T) { // P17.2
-	for _, c := range allContexts() {
+	for _, c := range samples.AllContexts() {
 		for _, i := range append(samples.Outside(0, 7), samples.Ends()...) {
 			holdWord(t, c, i)
 		}
@@ -234,7 +175,7 @@ func TestWordsFarOff(t *testing.T) { // P17.2
 }
 
 func TestNoHook(t *testing.T) { // P17.1, P17.2
-	for _, c := range append(allContexts(), api.Context{}, api.Context{Words: [8]uint64{1}, Objs: []api.Obj{task(1)}}) {
+	for _, c := range append(samples.AllContexts(), api.Context{}, api.Context{Words: [8]uint64{1}, Objs: []api.Obj{samples.Task(1)}}) {
 		for _, hook := range append(samples.Outside(1, 16), 0, 17, -1, math.MaxInt, math.MinInt) {
 			c.Hook = hook
 			if Right(c) {
@@ -250,7 +191,7 @@ func TestNoHook(t *testing.T) { // P17.1, P17.2
 }
 
 func TestContextsOfOtherHooks(t *testing.T) { // P17.1, P17.2
-	for _, c := range allContexts() {
+	for _, c := range samples.AllContexts() {
 		for hook := range 18 {
 			c.Hook = hook
 			hold(t, c)
@@ -259,8 +200,8 @@ func TestContextsOfOtherHooks(t *testing.T) { // P17.1, P17.2
 }
 
 func TestNullWhereItMayBe(t *testing.T) { // P17.1, P17.2
-	for _, c := range allContexts() {
-		for i, letter := range shapes()[c.Hook] {
+	for _, c := range samples.AllContexts() {
+		for i, letter := range samples.Shapes()[c.Hook] {
 			d := c
 			d.Words[i] = 0
 			if Right(d) != (letter != 'T' && letter != 'I') {
@@ -272,7 +213,7 @@ func TestNullWhereItMayBe(t *testing.T) { // P17.1, P17.2
 }
 
 func TestObjectsOfOtherTypes(t *testing.T) { // P17.1
-	for _, c := range allContexts() {
+	for _, c := range samples.AllContexts() {
 		for place := range c.Objs {
 			for _, typ := range append(samples.Ends(), 1, 2, 3, 4, 5, 6, 1<<8+1, 1<<32+2, -3) {
 				d := c
@@ -295,11 +236,11 @@ func beside(c api.Context, l ...api.Obj) api.Context {
 }
 
 func TestObjectsThatNoWordNames(t *testing.T) { // P17.1
-	for _, c := range allContexts() {
+	for _, c := range samples.AllContexts() {
 		for n := range 12 {
 			var more []api.Obj
 			for i := range n {
-				more = append(more, []api.Obj{task(i), inode(i)}[i%2])
+				more = append(more, []api.Obj{samples.Task(i), samples.Inode(i)}[i%2])
 			}
 			d := beside(c, more...)
 			if Right(d) != (len(d.Objs) <= 8) {
@@ -308,7 +249,7 @@ func TestObjectsThatNoWordNames(t *testing.T) { // P17.1
 			hold(t, d)
 		}
 		for _, typ := range append(samples.Outside(1, 2), 0, 3) {
-			if d := beside(c, task(1), api.Obj{Type: typ}, inode(1)); Right(d) {
+			if d := beside(c, samples.Task(1), api.Obj{Type: typ}, samples.Inode(1)); Right(d) {
 				t.Errorf("hook %d with one more object of type %d is right", d.Hook, typ)
 			}
 		}
@@ -332,9 +273,9 @@ func TestEachPlaceOfAnObject(t *testing.T) { // P17.1, P17.2
 		for place := range n {
 			c := api.Context{Hook: api.HookChdir}
 			for i := range n {
-				c.Objs = append(c.Objs, inode(i))
+				c.Objs = append(c.Objs, samples.Inode(i))
 			}
-			c.Objs[place] = task(9)
+			c.Objs[place] = samples.Task(9)
 			for at := range uint64(12) {
 				for other := range uint64(12) {
 					c.Words = [8]uint64{at, other}
@@ -349,7 +290,7 @@ func TestManyObjects(t *testing.T) { // P17.1
 	for _, n := range []int{9, 16, 256, 257, 264, 1 << 16} {
 		c := api.Context{Hook: api.HookFork, Words: [8]uint64{1, 2}}
 		for i := range n {
-			c.Objs = append(c.Objs, task(i))
+			c.Objs = append(c.Objs, samples.Task(i))
 		}
 		for _, at := range []uint64{1, 8, 9, uint64(n)} {
 			c.Words[0] = at
@@ -362,7 +303,7 @@ func TestManyObjects(t *testing.T) { // P17.1
 
 // drawn draws a context, whatever it is; about every third is right.
 func drawn(seed *uint64) api.Context {
-	l := allContexts()
+	l := samples.AllContexts()
 	c := l[samples.Below(seed, len(l))]
 	c.Now = samples.Number(seed)
 	c.Objs = append([]api.Obj(nil), c.Objs...)
@@ -375,7 +316,7 @@ func drawn(seed *uint64) api.Context {
 		case 2:
 			c.Hook = samples.Below(seed, 19) - 1
 		case 3:
-			c.Objs = append(c.Objs, []api.Obj{task(1), inode(2)}[samples.Below(seed, 2)])
+			c.Objs = append(c.Objs, []api.Obj{samples.Task(1), samples.Inode(2)}[samples.Below(seed, 2)])
 		case 4:
 			c.Objs = c.Objs[:samples.Below(seed, len(c.Objs)+1)]
 		case 5:
@@ -408,32 +349,16 @@ func cloned(o api.Obj) api.Obj {
 	return o
 }
 
-// deepContext tells the same context, of which nothing is shared.
-func deepContext(c api.Context) api.Context {
-	objs := c.Objs[:cap(c.Objs)]
-	c.Objs = make([]api.Obj, len(objs))
-	for i, o := range objs {
-		c.Objs[i] = deepObj(o)
-	}
-	return c
-}
-
-// deepObj tells the same object, whose list is its own and has what stands in the room behind it, too.
-func deepObj(o api.Obj) api.Obj {
-	o.Up = append([]int(nil), o.Up[:cap(o.Up)]...)
-	return o
-}
-
 func TestContextsStayAsTheyAre(t *testing.T) { // P17.1, P17.2
 	seed := uint64(3)
 	for range 2000 {
 		c := drawn(&seed)
-		was := deepContext(c)
+		was := samples.DeepContext(c)
 		Right(c)
 		for i := -1; i <= 8; i++ {
 			Word(c, i)
 		}
-		if now := deepContext(c); !reflect.DeepEqual(now, was) {
+		if now := samples.DeepContext(c); !reflect.DeepEqual(now, was) {
 			t.Fatalf("%+v is %+v now", was, now)
 		}
 	}

@@ -1,4 +1,4 @@
-// Package samples has numbers, their orders, what is known of them, bytes, texts, and objects, for the tests of the layers' packages; none of these calls it.
+// Package samples has numbers, their orders, what is known of them, bytes, texts, objects, and contexts, for the tests of the layers' packages; none of these calls it.
 package samples
 
 import (
