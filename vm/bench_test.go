@@ -11,6 +11,7 @@ import (
 	"halberd/owned"
 	"halberd/ring"
 	"halberd/samples"
+	"halberd/steps"
 )
 
 // bench is what codes run with.
@@ -71,7 +72,7 @@ func code(t *testing.T, lines string) []api.Inst {
 func (b *bench) run(t *testing.T, l []api.Inst) api.Result {
 	t.Helper()
 	other, was, kept := b.copied(), samples.DeepContext(b.c), slices.Clone(l)
-	want := runAgain(l, other.c, other.o, other.r, other.owner)
+	want := steps.Result(l, other.c, other.o, other.r, other.owner)
 	got := Run(l, b.c, b.o, b.r, b.owner)
 	if got != want {
 		t.Fatalf("%s: %+v, not %+v", textOf(l), got, want)

@@ -8,12 +8,13 @@ import (
 	"halberd/inst"
 	"halberd/ring"
 	"halberd/samples"
+	"halberd/steps"
 )
 
 // maker draws a code step by step, beside a run of it that is told once more.
 type maker struct {
 	seed *uint64
-	x    *again
+	x    *steps.Run
 	// trap is what the code has come to, -1 where it has come to its end.
 	trap int
 	// barred are places that are jumped to, so that no second one of two may stand there.
@@ -25,10 +26,7 @@ func (m *maker) below(n int) int { return samples.Below(m.seed, n) }
 
 func (m *maker) copied() *maker {
 	c := *m
-	x := *m.x
-	x.l, x.mine = slices.Clone(x.l), slices.Clone(x.mine)
-	x.o, x.r = x.o.Copy(), x.r.Copy()
-	c.x = &x
+	c.x = m.x.Copy()
 	return &c
 }
 
@@ -37,11 +35,11 @@ func (m *maker) add(l ...api.Inst) {
 	if m.trap != 0 {
 		return
 	}
-	m.x.l = append(m.x.l, l...)
-	for m.trap == 0 && m.x.at < len(m.x.l) {
-		m.trap = m.x.step()
+	m.x.Code = append(m.x.Code, l...)
+	for m.trap == 0 && m.x.At < len(m.x.Code) {
+		m.trap = m.x.Step()
 	}
-	if m.x.done {
+	if m.x.Done {
 		m.trap = -1
 	}
 }
@@ -50,7 +48,7 @@ func (m *maker) add(l ...api.Inst) {
 func (m *maker) attempt(draw func(m *maker) []api.Inst) {
 	for range 6 {
 		c := m.copied()
-		if l := draw(c); len(c.x.l)+len(l) < 60 {
+		if l := draw(c); len(c.x.Code)+len(l) < 60 {
 			c.add(l...)
 		}
 		if c.trap == 0 || m.below(100) == 0 {
@@ -61,19 +59,19 @@ func (m *maker) attempt(draw func(m *maker) []api.Inst) {
 }
 
 // having draws a register, mostly one whose value suits.
-func (m *maker) having(suits func(v thing) bool) byte {
+func (m *maker) having(suits func(v steps.Value) bool) byte {
 	start := m.below(11)
 	for k := range 11 {
-		if reg := (start + k) % 11; suits(m.x.regs[reg]) && m.below(20) > 0 {
+		if reg := (start + k) % 11; suits(m.x.Regs[reg]) && m.below(20) > 0 {
 			return byte(reg)
 		}
 	}
 	return byte(start)
 }
 
-func isNumber(v thing) bool  { return v.what == "num" }
-func isPointer(v thing) bool { return v.points() }
-func hasValue(v thing) bool  { return v.what != "" }
+func isNumber(v steps.Value) bool  { return v.What == "num" }
+func isPointer(v steps.Value) bool { return v.Points() }
+func hasValue(v steps.Value) bool  { return v.What != "" }
 
 // small draws a number that is of use as an offset, a length or a flag; not always.
 func (m *maker) small() int32 {
@@ -113,7 +111,7 @@ func drawOperation(m *maker) []api.Inst {
 }
 
 func drawWide(m *maker) []api.Inst {
-	if m.barred[len(m.x.l)+1] {
+	if m.barred[len(m.x.Code)+1] {
 		return nil
 	}
 	p := inst.Pair(api.LdWide, m.dst(), 0, samples.Number(m.seed))
@@ -124,23 +122,23 @@ func drawWide(m *maker) []api.Inst {
 }
 
 // offset draws one that goes near the bytes of a pointer.
-func (m *maker) offset(v thing) int16 {
+func (m *maker) offset(v steps.Value) int16 {
 	off := int64(m.below(20) - 4)
 	switch {
 	case m.below(30) == 0:
 		return int16(samples.Draw(m.seed))
-	case v.what == "stack":
+	case v.What == "stack":
 		off = int64(m.below(72) - 68)
 		if m.below(2) == 0 {
 			off = int64(-8 * (1 + m.below(8)))
 		}
-		off -= v.off
-	case v.what == "ctx":
-		off = int64(8*m.below(6)) - v.off
-	case v.what == "obj":
-		off = int64(m.below(66)) - v.off
+		off -= v.Off
+	case v.What == "ctx":
+		off = int64(8*m.below(6)) - v.Off
+	case v.What == "obj":
+		off = int64(m.below(66)) - v.Off
 	case m.below(2) == 0:
-		off = -v.off
+		off = -v.Off
 	}
 	return int16(off)
 }
@@ -149,12 +147,12 @@ var sizeBits = []byte{0x00, 0x08, 0x10, 0x18, 0x18}
 
 func drawLoad(m *maker) []api.Inst {
 	src := m.having(isPointer)
-	return []api.Inst{{Op: 0x61 | sizeBits[m.below(5)], Dst: m.dst(), Src: src, Off: m.offset(m.x.regs[src])}}
+	return []api.Inst{{Op: 0x61 | sizeBits[m.below(5)], Dst: m.dst(), Src: src, Off: m.offset(m.x.Regs[src])}}
 }
 
 func drawStore(m *maker) []api.Inst {
 	dst := m.having(isPointer)
-	x := api.Inst{Op: 0x62 | sizeBits[m.below(5)], Dst: dst, Off: m.offset(m.x.regs[dst])}
+	x := api.Inst{Op: 0x62 | sizeBits[m.below(5)], Dst: dst, Off: m.offset(m.x.Regs[dst])}
 	if m.below(3) == 0 {
 		x.Imm = m.small()
 	} else {
@@ -180,10 +178,10 @@ func drawJump(m *maker) []api.Inst {
 		x.Imm = m.small()
 	}
 	l := []api.Inst{x}
-	m.barred[len(m.x.l)+1+int(x.Off)] = true
+	m.barred[len(m.x.Code)+1+int(x.Off)] = true
 	c := m.copied()
 	c.add(x)
-	for range c.x.at - len(c.x.l) {
+	for range c.x.At - len(c.x.Code) {
 		l = append(l, api.Inst{Op: api.ClassAlu64 | api.Mov, Dst: m.dst(), Imm: m.small()})
 	}
 	return l
@@ -196,7 +194,7 @@ func drawCall(m *maker) []api.Inst {
 		n = m.below(20)
 	}
 	var l []api.Inst
-	args := signs()[n].args
+	args := steps.Signs()[n].Args
 	// From the last one on, as what is there may be moved away by the first.
 	for i := len(args) - 1; i >= 0; i-- {
 		if m.below(50) > 0 {
@@ -208,14 +206,14 @@ func drawCall(m *maker) []api.Inst {
 }
 
 func (m *maker) argument(letter byte, reg byte) []api.Inst {
-	mov := func(suits func(v thing) bool) []api.Inst {
+	mov := func(suits func(v steps.Value) bool) []api.Inst {
 		return []api.Inst{{Op: api.ClassAlu64 | api.Mov | api.FromReg, Dst: reg, Src: m.having(suits)}}
 	}
 	switch letter {
 	case 'm':
 		for k := range 2 {
-			if m.barred[len(m.x.l)+k+1] {
-				return mov(func(v thing) bool { return v.what == "map" })
+			if m.barred[len(m.x.Code)+k+1] {
+				return mov(func(v steps.Value) bool { return v.What == "map" })
 			}
 		}
 		p := inst.Pair(api.LdWide, reg, 1, uint64(m.below(4)))
@@ -224,9 +222,9 @@ func (m *maker) argument(letter byte, reg byte) []api.Inst {
 		return []api.Inst{{Op: api.ClassAlu64 | api.Mov | api.FromReg, Dst: reg, Src: 10}, {Op: api.ClassAlu64 | api.Add, Dst: reg, Imm: int32(-1 - m.below(66))}}
 	case 'i', 't':
 		typ := map[byte]int{'t': 1, 'i': 2}[letter]
-		return mov(func(v thing) bool { return v.what == "obj" && m.x.c.Objs[v.no].Type == typ })
+		return mov(func(v steps.Value) bool { return v.What == "obj" && m.x.Context.Objs[v.No].Type == typ })
 	case 'R':
-		return mov(func(v thing) bool { return v.what == "rec" })
+		return mov(func(v steps.Value) bool { return v.What == "rec" })
 	case 'c':
 		return []api.Inst{{Op: api.ClassAlu64 | api.Mov, Dst: reg, Imm: int32(m.below(40))}}
 	}
@@ -236,7 +234,7 @@ func (m *maker) argument(letter byte, reg byte) []api.Inst {
 // drawn draws a code for a bench, which is left as it is; and how many calls it does.
 func drawn(b *bench, seed *uint64) ([]api.Inst, int) {
 	c := b.copied()
-	m := &maker{seed: seed, x: beginAgain(nil, c.c, c.o, c.r, c.owner), barred: map[int]bool{}}
+	m := &maker{seed: seed, x: steps.Begin(nil, c.c, c.o, c.r, c.owner), barred: map[int]bool{}}
 	// The context would be gone behind the first call.
 	m.add(api.Inst{Op: 0xBF, Dst: 9, Src: 1}, api.Inst{Op: 0x79, Dst: 7, Src: 1}, api.Inst{Op: 0x79, Dst: 8, Src: 1, Off: 8})
 	for off := int16(-8 - 8*m.below(8)); off < 0; off += 8 {
@@ -254,14 +252,14 @@ func drawn(b *bench, seed *uint64) ([]api.Inst, int) {
 // finished ends a code, mostly with a number and nothing held.
 func (m *maker) finished() []api.Inst {
 	for reg := range byte(10) {
-		if v := m.x.regs[reg]; m.trap == 0 && v.what == "rec" && slices.Contains(m.x.mine, v.no) && m.below(8) > 0 && len(m.x.l) < 58 {
+		if v := m.x.Regs[reg]; m.trap == 0 && v.What == "rec" && slices.Contains(m.x.Mine, v.No) && m.below(8) > 0 && len(m.x.Code) < 58 {
 			m.add(api.Inst{Op: 0xBF, Dst: 1, Src: reg}, api.Inst{Op: api.ClassJmp | api.CallOp, Imm: int32(9 + m.below(2))})
 		}
 	}
-	if m.below(8) > 0 && m.x.regs[0].what != "num" {
+	if m.below(8) > 0 && m.x.Regs[0].What != "num" {
 		m.add(api.Inst{Op: 0xB7, Imm: m.small()})
 	}
-	l := m.x.l
+	l := m.x.Code
 	// What isn't taken may jump this far.
 	for range 3 {
 		l = append(l, exit)
